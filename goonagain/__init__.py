@@ -1,0 +1,1 @@
+"""goonagain: programs whose rests are kept and gone on with."""
