@@ -181,7 +181,7 @@ class Performing(Plain):
             1: ("mark",), 2: ("wait", 0, ()), 4: ("piece", (2,)), 5: ("wait", 1, (rest(4),))})
         machine.advance()
         self.stands(machine, 1, (), (1, 5, 6, 7), 7, {
-            1: ("mark",), 5: ("wait", 1, (rest(4),)), 6: ("mark",), 7: ("wait", 2, (7,))})
+            1: ("mark",), 2: ("wait", 0, ()), 4: ("piece", (2,)), 5: ("wait", 1, (rest(4),)), 6: ("mark",), 7: ("wait", 2, (7,))})
 
     def test_a_piece_laid_on_twice(self):
         self.shows("(mark (do (show (+ 1 (take k (do (show 10) (k (k 5)))))) none))", "10", "6", end=("fault", "kind"))
