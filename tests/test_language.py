@@ -1,0 +1,241 @@
+"""The files of the package keep to the subset of Python that the project allows, and to the headings of the interface."""
+
+import ast
+import builtins
+import os
+import unittest
+
+import goonagain
+
+FOLDER = os.path.dirname(goonagain.__file__)
+
+# What each file may need, by the headings of the interface.
+NEEDS = {
+    "errors": (), "reader": ("errors",), "printer": (), "trees": (), "scopes": ("errors", "trees"),
+    "plainset": ("scopes", "trees"), "program": ("plainset", "printer", "reader", "scopes"), "values": (), "standing": (),
+    "machine": ("values", "standing", "errors"), "plain": ("machine", "ways"), "ways": (), "bounce": (),
+    "walker": ("machine", "bounce"), "equals": ("errors", "trees", "scopes"),
+}
+# What each file defines: functions with their parameters, classes with their methods.
+FUNCTIONS = {
+    "reader": {"read_program": "text"}, "printer": {"program_text": "tree"},
+    "trees": {"parts_of": "tree", "with_parts": "tree parts", "tree_at": "tree path", "tree_with": "tree path other",
+              "tree_paths": "tree", "tree_size": "tree"},
+    "scopes": {"check_names": "tree", "free_names": "tree", "set_names": "tree"}, "plainset": {"without_set": "tree"},
+    "values": {"is_value": "thing"}, "standing": {"reached": "callee handed frames things"}, "machine": {"run_seen": "machine"},
+    "ways": {"winds_of": "frames things", "shared_winds": "present goal things", "deeds_of_way": "present goal things",
+             "mark_cut": "frames things", "lay_on": "below frames things", "next_step": "below road things"},
+    "bounce": {"run_bounces": "bounce most"}, "walker": {"walk": "tree asks fuel", "walk_counted": "tree asks fuel"},
+    "equals": {"is_literal": "tree", "is_calm": "tree", "uses_of": "tree name", "has_take": "whole", "winds_guarded": "whole",
+               "turn_here": "tree name whole"},
+}
+CLASSES = {
+    "program": {"Program": {"__init__": "self text", "of_tree": "tree"}},
+    "standing": {"Standing": {"__init__": "self callee handed frames things born calls asked shown", "__eq__": "self other"}},
+    "machine": {"Seen": {"__init__": "self shows end", "__eq__": "self other"},
+                "Machine": {"__init__": "self program asks fuel", "advance": "self"}},
+    "plain": {"PlainMachine": {"__init__": "self program asks fuel", "standing": "self", "restored": "program asks standing fuel"}},
+    "bounce": {"Bounce": {"__init__": "self deed worth"}},
+    "walker": {"Walked": {"__init__": "self shows end calls asked deeds", "__eq__": "self other"}},
+}
+BUILTINS = """len range enumerate zip min max sum abs sorted reversed int str bool list tuple dict set isinstance ord repr any all
+    divmod getattr hasattr setattr iter next map super staticmethod property ValueError TypeError KeyError IndexError LookupError
+    NotImplementedError RuntimeError""".split()
+METHODS = """append clear copy count endswith extend find get index insert isalnum isalpha isdigit islower isspace isupper items join
+    keys ljust lower lstrip partition pop remove replace reverse rfind rjust rpartition rsplit rstrip setdefault split splitlines
+    startswith strip update upper values zfill bit_length add discard""".split()
+BARRED = """type typing typing_extensions enum Enum IntEnum StrEnum Flag IntFlag Generic Protocol ABC ABCMeta namedtuple NamedTuple
+    TypedDict TYPE_CHECKING abstractmethod register mro elements open input law version_info with_traceback add_note attrgetter
+    breakpoint compile delattr dir eval exec exit gc globals help id importlib license locals methodcaller os quit vars sys
+    _wall _WallAttr""".split()
+NODES = (ast.AsyncFunctionDef, ast.Global, ast.Import, ast.SetComp, ast.Await, ast.AnnAssign, ast.GeneratorExp, ast.Match, ast.With,
+         ast.Yield, ast.YieldFrom, ast.Try, ast.NamedExpr, ast.Div, ast.Assert, ast.Set)
+
+
+def package():
+    for name in sorted(os.listdir(FOLDER)):
+        if name != "__pycache__":
+            with open(os.path.join(FOLDER, name), encoding="utf-8", newline="") as file:
+                yield name, file.read()
+
+
+def names_of(arguments):
+    return [one.arg for one in arguments.posonlyargs + arguments.args + arguments.kwonlyargs]
+
+
+class Files(unittest.TestCase):
+    def test_only_plain_files(self):
+        self.assertEqual([name for name, _ in package()], sorted(name + ".py" for name in list(NEEDS) + ["__init__"]))
+
+    def test_characters_and_sizes(self):
+        for name, text in package():
+            self.assertTrue(all(sign == "\n" or " " <= sign <= "~" for sign in text), name)
+            self.assertTrue(text.endswith("\n"), name)
+            lines = text.split("\n")
+            self.assertLessEqual(len(lines) - 1, 399, name)
+            for number, line in enumerate(lines, 1):
+                self.assertLessEqual(len(line), 120, (name, number))
+                self.assertEqual(line, line.rstrip(), (name, number))
+            for node in ast.walk(ast.parse(text)):
+                if isinstance(node, ast.FunctionDef):
+                    self.assertLessEqual(node.end_lineno - node.lineno + 1, 40, (name, node.name))
+
+    def test_imports(self):
+        for name, text in package():
+            module = name[:-3]
+            body = ast.parse(text).body
+            imports = [node for node in body if isinstance(node, ast.ImportFrom)]
+            behind = [node for node in body if not isinstance(node, ast.ImportFrom)]
+            if behind and imports:
+                # A docstring may stand ahead of the imports, nothing else.
+                self.assertLess(imports[-1].lineno, behind[1].lineno, name)
+            for node in imports:
+                self.assertEqual(node.level, 0)
+                self.assertTrue(node.module.startswith("goonagain."), name)
+                needed = node.module[len("goonagain."):]
+                self.assertIn(needed, NEEDS[module], name)
+                with open(os.path.join(FOLDER, needed + ".py"), encoding="utf-8") as file:
+                    defined = [getattr(one, "name", None) or one.targets[0].id for one in ast.parse(file.read()).body
+                               if isinstance(one, (ast.FunctionDef, ast.ClassDef, ast.Assign))]
+                for alias in node.names:
+                    self.assertIsNone(alias.asname)
+                    self.assertIn(alias.name, defined)
+                    self.assertFalse(alias.name.startswith("_"))
+
+    def test_module_level(self):
+        for name, text in package():
+            bound = []
+            for node in ast.parse(text).body:
+                self.assertIsInstance(node, (ast.Expr, ast.ImportFrom, ast.FunctionDef, ast.ClassDef, ast.Assign), name)
+                if isinstance(node, ast.Expr):
+                    self.assertIsInstance(node.value.value, str)
+                elif isinstance(node, ast.ImportFrom):
+                    bound.extend(alias.name for alias in node.names)
+                elif isinstance(node, ast.Assign):
+                    self.assertEqual([type(target) for target in node.targets], [ast.Name])
+                    bound.append(node.targets[0].id)
+                else:
+                    bound.append(node.name)
+            self.assertEqual(len(bound), len(set(bound)), name)
+
+
+class Words(unittest.TestCase):
+    def check(self, condition, name, node, what):
+        self.assertTrue(condition, f"{name}:{getattr(node, 'lineno', '?')}: {what}")
+
+    def test_statements_and_expressions(self):
+        for name, text in package():
+            for node in ast.walk(ast.parse(text)):
+                self.check(not isinstance(node, NODES), name, node, type(node).__name__)
+                if isinstance(node, ast.Constant):
+                    self.check(not isinstance(node.value, (float, complex, bytes)), name, node, "a constant")
+                if isinstance(node, (ast.FunctionDef, ast.ClassDef)):
+                    for decorator in node.decorator_list:
+                        self.check(isinstance(node, ast.FunctionDef) and decorator.id == "staticmethod", name, node, "a decorator")
+                if isinstance(node, ast.Compare):
+                    for sign, right in zip(node.ops, node.comparators):
+                        if isinstance(sign, (ast.Is, ast.IsNot)):
+                            self.check(isinstance(right, ast.Constant) and right.value is None, name, node, "is")
+                if isinstance(node, ast.Raise):
+                    self.check(isinstance(node.exc, ast.Call), name, node, "raise")
+                if isinstance(node, ast.FunctionDef):
+                    self.check(not node.args.vararg and not node.args.kwarg and not node.returns, name, node, "parameters")
+
+    def test_attributes_are_assigned_through_a_local_name(self):
+        for name, text in package():
+            for node in ast.walk(ast.parse(text)):
+                if isinstance(node, ast.Attribute) and isinstance(node.ctx, ast.Store):
+                    self.check(isinstance(node.value, ast.Name), name, node, "a target")
+
+    def test_builtins(self):
+        known = set(dir(builtins)) - {"__name__"}
+        for name, text in package():
+            for node in ast.walk(ast.parse(text)):
+                if isinstance(node, ast.Name) and node.id in known:
+                    self.check(isinstance(node.ctx, ast.Load) and node.id in BUILTINS, name, node, node.id)
+                if isinstance(node, (ast.FunctionDef, ast.Lambda)):
+                    for parameter in names_of(node.args):
+                        self.check(parameter not in known, name, node, parameter)
+                if isinstance(node, (ast.FunctionDef, ast.ClassDef)):
+                    self.check(node.name not in known, name, node, node.name)
+
+    def test_methods_of_builtin_values(self):
+        known = set(dir(str)) | set(dir(list)) | set(dir(dict)) | set(dir(tuple)) | set(dir(set)) | set(dir(int)) | set(dir(bytes))
+        for name, text in package():
+            for node in ast.walk(ast.parse(text)):
+                if isinstance(node, ast.Attribute) and node.attr in known:
+                    self.check(node.attr in METHODS or node.attr in ("__init__", "index"), name, node, node.attr)
+
+    def test_barred_words(self):
+        for name, text in package():
+            tree = ast.parse(text)
+            docs = {id(node.body[0].value) for node in ast.walk(tree)
+                    if isinstance(node, (ast.Module, ast.FunctionDef, ast.ClassDef)) and node.body
+                    and isinstance(node.body[0], ast.Expr)}
+            for node in ast.walk(tree):
+                for field in ("id", "attr", "arg", "name"):
+                    word = getattr(node, field, None)
+                    if isinstance(word, str):
+                        self.check(word not in BARRED, name, node, word)
+                        self.check(not word.startswith("__") or word in ("__init__", "__eq__"), name, node, word)
+                if isinstance(node, ast.Constant) and isinstance(node.value, str):
+                    self.check("%" not in node.value, name, node, "%")
+                    if id(node) not in docs:
+                        self.check(not set(node.value.replace("(", " ").split()) & set(BARRED), name, node, node.value)
+
+    def test_names_of_classes_and_imports_are_not_used_again(self):
+        for name, text in package():
+            tree = ast.parse(text)
+            taken = {alias.name for node in tree.body if isinstance(node, ast.ImportFrom) for alias in node.names}
+            taken |= {node.name for node in tree.body if isinstance(node, ast.ClassDef)}
+            for node in ast.walk(tree):
+                if isinstance(node, ast.Name) and isinstance(node.ctx, (ast.Store, ast.Del)):
+                    self.check(node.id not in taken, name, node, node.id)
+                if isinstance(node, (ast.FunctionDef, ast.Lambda)):
+                    for parameter in names_of(node.args):
+                        self.check(parameter not in taken, name, node, parameter)
+
+    def test_no_name_is_a_method_and_an_attribute_of_one_class(self):
+        for name, text in package():
+            for node in ast.walk(ast.parse(text)):
+                if isinstance(node, ast.ClassDef):
+                    methods = {one.name for one in node.body if isinstance(one, ast.FunctionDef)}
+                    attributes = {one.attr for one in ast.walk(node) if isinstance(one, ast.Attribute)
+                                  and isinstance(one.ctx, ast.Store)}
+                    self.check(not methods & attributes, name, node, methods & attributes)
+
+
+class Interface(unittest.TestCase):
+    def test_functions(self):
+        trees = {name[:-3]: ast.parse(text) for name, text in package()}
+        for module, functions in FUNCTIONS.items():
+            found = {node.name: node for node in trees[module].body if isinstance(node, ast.FunctionDef)}
+            for function, parameters in functions.items():
+                self.assertEqual(" ".join(names_of(found[function].args)), parameters, function)
+
+    def test_classes(self):
+        trees = {name[:-3]: ast.parse(text) for name, text in package()}
+        for module, classes in CLASSES.items():
+            found = {node.name: node for node in trees[module].body if isinstance(node, ast.ClassDef)}
+            for name, methods in classes.items():
+                own = {node.name: node for node in found[name].body if isinstance(node, ast.FunctionDef)}
+                for method, parameters in methods.items():
+                    self.assertEqual(" ".join(names_of(own[method].args)), parameters, (name, method))
+
+    def test_defaults(self):
+        trees = {name[:-3]: ast.parse(text) for name, text in package()}
+
+        def defaults(module, name):
+            for node in ast.walk(trees[module]):
+                if isinstance(node, ast.FunctionDef) and node.name == name and node.args.defaults:
+                    yield [ast.unparse(one) for one in node.args.defaults]
+        self.assertEqual(list(defaults("walker", "walk")), [["()", "2000"]])
+        self.assertEqual(list(defaults("walker", "walk_counted")), [["()", "2000"]])
+        self.assertEqual(list(defaults("machine", "__init__")), [["()", "2000"]])
+        self.assertEqual(list(defaults("plain", "__init__")), [["()", "2000"]])
+        self.assertEqual(list(defaults("plain", "restored")), [["2000"]])
+        self.assertEqual(list(defaults("bounce", "run_bounces")), [["1000000"]])
+
+
+if __name__ == "__main__":
+    unittest.main()

@@ -1,0 +1,102 @@
+"""[0.4], [0.5]: what is passed in is not changed or kept, what is returned is new, a call that raises changes nothing."""
+
+import copy
+import unittest
+
+from goonagain.equals import TURN_NAMES, turn_here, uses_of
+from goonagain.errors import BadAsks, BadName, BadText, BadTurnName
+from goonagain.machine import run_seen
+from goonagain.plain import PlainMachine
+from goonagain.plainset import without_set
+from goonagain.program import Program
+from goonagain.reader import read_program
+from goonagain.scopes import check_names, free_names, set_names
+from goonagain.standing import reached
+from goonagain.trees import parts_of, tree_at, tree_paths, tree_with, with_parts
+from goonagain.walker import walk_counted
+from goonagain.ways import deeds_of_way, lay_on, mark_cut, next_step, shared_winds, winds_of
+
+TEXT = """(let ((r none) (n 0)) (rec ((f (fn (a b) (set n (+ n a)))) (g (fn () (f 1 2)))) (g)
+  (mark (wind (fn () (show 1)) (take k (pair (k 5) (k 6))) (fn () (show (ask))))) (keep k (set r k)) (if (< n 3) (once j (j n)) 5)))"""
+THINGS = {1: ("wind", 7, 8), 2: ("mark",), 3: ("wind", 17, 18), 4: ("wait", 0, (("rest", 5),)), 5: ("keep", (1, 4))}
+
+
+def all_tuples(test, thing):
+    """Whether a thing that was returned has tuples alone, through and through."""
+    waiting = [thing]
+    while waiting:
+        item = waiting.pop()
+        test.assertIsInstance(item, (tuple, str, int, type(None)))
+        if isinstance(item, tuple):
+            waiting.extend(item)
+
+
+class Unchanged(unittest.TestCase):
+    def test_functions_over_trees_return_tuples(self):
+        tree = read_program(TEXT)
+        for thing in (tree, without_set(tree), free_names(tree), set_names(tree[2]), parts_of(tree), tree_paths(tree),
+                      tree_at(tree, [2, 0]), tree_with(tree, [2, 0], ("none",)), with_parts(tree, list(parts_of(tree))),
+                      uses_of(tree[2], "n"), Program(TEXT).bodies, Program(TEXT).places):
+            all_tuples(self, thing)
+        for name in TURN_NAMES:
+            all_tuples(self, turn_here(read_program("((fn (a b) a) 1 2)"), name, tree))
+
+    def test_functions_over_frames_take_lists_and_return_tuples(self):
+        present, goal, things = [1, 2, 3, 4], [2, 1, 4, 3], dict(THINGS)
+        for thing in (winds_of(present, things), shared_winds(present, goal, things), deeds_of_way(present, goal, things),
+                      mark_cut(present, things), lay_on(present, goal, things), next_step(present, ["off"], things),
+                      next_step(present, ("to", goal, 0), things), next_step(present, ("to", goal, 1), things),
+                      next_step(present, ["on", [1, 4, 3]], things), next_step(present, ("out",), things),
+                      reached(("rest", 5), [1, ("rest", 5)], present, things)):
+            all_tuples(self, thing)
+        self.assertEqual((present, goal, things), ([1, 2, 3, 4], [2, 1, 4, 3], THINGS))
+
+    def test_lists_that_are_changed_later(self):
+        parts = [("number", 1), ("number", 2)]
+        tree = with_parts(("do", (("none",), ("none",))), parts)
+        frames = [4, 4]
+        step = next_step([1], ("to", frames, 0), THINGS)
+        asks = [1, 2, 3]
+        machine = PlainMachine(Program("((fn () 1)) (show (ask))"), asks)
+        other = PlainMachine.restored(machine.program, asks, machine.standing())
+        parts[0] = frames[0] = asks[0] = None
+        self.assertEqual(tree, ("do", (("number", 1), ("number", 2))))
+        self.assertEqual(step, ("leave", 8, (), ("to", (4, 4), 0)))
+        self.assertEqual((run_seen(machine).shows, run_seen(other).shows), (("1",), ("1",)))
+
+    def test_a_machine_changes_neither_its_program_nor_its_inputs(self):
+        program, asks = Program(TEXT), [4, 5, 6]
+        before = copy.deepcopy(vars(program))
+        machine = PlainMachine(program, asks)
+        while machine.outcome is None:
+            standing = machine.standing()
+            told = copy.deepcopy(vars(standing))
+            machine.advance()
+            self.assertEqual(vars(standing), told)
+            all_tuples(self, standing.things)
+            all_tuples(self, (standing.callee, standing.handed, standing.frames, machine.shown))
+        self.assertEqual(vars(program), before)
+        self.assertEqual(asks, [4, 5, 6])
+
+    def test_two_runs_of_one_program_are_alike(self):
+        program = Program(TEXT)
+        first = run_seen(PlainMachine(program, (4,)))
+        self.assertEqual(run_seen(PlainMachine(program, (4,))), first)
+        walked = walk_counted(program.tree, (4,))
+        self.assertEqual(walk_counted(program.tree, (4,)), walked)
+        self.assertEqual((walked.shows, walked.end), (first.shows, first.end))
+
+    def test_calls_that_raise_change_nothing(self):
+        asks, things, tree = [1, True, 3], dict(THINGS), read_program("(+ x 1)")
+        program = Program("(show (ask))")
+        for call, error in ((lambda: PlainMachine(program, asks), BadAsks), (lambda: walk_counted(program.tree, asks), BadAsks),
+                            (lambda: check_names(tree), BadName), (lambda: Program("(x"), BadText),
+                            (lambda: Program.of_tree(tree), BadName), (lambda: turn_here(tree, "no", tree), BadTurnName)):
+            for _ in range(2):
+                self.assertRaises(error, call)
+        self.assertEqual((asks, things, tree), ([1, True, 3], THINGS, read_program("(+ x 1)")))
+        self.assertEqual(run_seen(PlainMachine(program, [7])).shows, ("7",))
+
+
+if __name__ == "__main__":
+    unittest.main()
