@@ -313,6 +313,22 @@ class Restored(Plain):
         self.assertEqual(dict(standing.things)[1], ("pair", 1, 2))
         self.assertEqual(run_seen(other).shows, ("(5 2)",))
 
+    def test_a_standing_that_the_program_does_not_come_to(self):
+        program = Program("(show 1)")
+        machine = PlainMachine.restored(program, (), Standing(5, (), (), (), 0, 3, 0, 2))
+        self.assertEqual((machine.outcome, machine.calls, machine.shown), (None, 3, ()))
+        self.assertEqual(machine.standing(), Standing(5, (), (), (), 0, 3, 0, 2))
+        machine.advance()
+        self.assertEqual((machine.outcome, machine.calls), (("fault", "kind"), 4))
+        machine = PlainMachine.restored(program, (), Standing(("rest", 1), (7,), (2,), ((1, ("keep", ())), (2, ("mark",))), 9, 0, 0, 0))
+        machine.advance()
+        self.assertEqual((machine.outcome, machine.shown), (("end",), ()))
+
+    def test_defaults(self):
+        program = Program("((fn () 1))")
+        machine = PlainMachine.restored(program, (), PlainMachine(program).standing())
+        self.assertEqual((machine.fuel, PlainMachine(program).fuel), (2000, 2000))
+
     def test_fuel_that_is_used_up(self):
         program = Program("((fn () 1)) ((fn () 2)) ((fn () 3))")
         machine = PlainMachine(program)
@@ -354,6 +370,10 @@ class Reach(Plain):
         machine.advance()
         standing = machine.standing()
         self.assertEqual((standing.calls, standing.asked, standing.shown), (1, 2, 2))
+
+    def test_pairs_that_were_changed(self):
+        machine = self.machine("(let ((a (pair 1 2)) (b (pair 3 4))) (left! a b) (right! b true) (1 a))")
+        self.stands(machine, 1, (("pair", 1),), (), 2, {1: ("pair", ("pair", 2), 2), 2: ("pair", 3, ("true",))})
 
     def test_standing_again_tells_the_same(self):
         machine = self.machine("(keep k (wind (fn () 1) (k 2) (fn () 3)))", 2)

@@ -240,6 +240,7 @@ class Faults(Reader):
     def test_rows(self):
         for word in ("let", "rec"):
             self.bad(f"({word} (x) 1)", 6, "form")
+            self.bad(f"({word} (xy) 1)", 6, "form")
             self.bad(f"({word} (()) 1)", 6, "form")
             self.bad(f"({word} ((x)) 1)", 6, "form")
             self.bad(f"({word} ((x 1 2)) 1)", 6, "form")

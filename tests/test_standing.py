@@ -75,6 +75,14 @@ class Reached(unittest.TestCase):
         self.assertEqual(self.births(("pair", 1), (("pair", 7), 3), (6, 15)), (1, 6, 7, 15))
         self.assertEqual(self.births(("pair", 1), [("pair", 7)], [6, 6]), (1, 6, 7))
 
+    def test_both_kinds_of_then(self):
+        things = {1: ("pair", 0, 0), 2: ("fun", 1, ()), 3: ("pair", 0, 0), 4: ("mark",),
+                  5: ("way", ("on", (4,)), ("call", ("fun", 2), (("pair", 1), 7, ("pair", 3)))),
+                  6: ("way", ("to", (4,), 0), ("give", ("pair", 3))), 7: ("way", ("off",), ("call", ("fun", 2), (("pair", 3),))),
+                  8: ("way", ("out",), ("give", ("fun", 2)))}
+        for birth, births in ((5, [1, 2, 3, 4, 5]), (6, [3, 4, 6]), (7, [2, 3, 7]), (8, [2, 8])):
+            self.assertEqual([found for found, _ in reached(1, (), (birth,), things)], births)
+
     def test_rings(self):
         things = {1: ("pair", ("pair", 2), 0), 2: ("pair", 0, ("fun", 3)), 3: ("fun", 1, (("pair", 1),)), 4: ("mark",)}
         self.assertEqual(reached(("fun", 3), (), (), things), ((1, things[1]), (2, things[2]), (3, things[3])))

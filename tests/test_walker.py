@@ -45,6 +45,10 @@ TEXTS = (
     "(let ((f (fn (x) (fn () (do (set x (+ x 1)) (show x)))))) (let ((a (f 1)) (b (f 10))) (a) (b) (a) (b)))",
     "(rec ((f (fn () (show 1))) (g (fn () (f)))) (g) (set f (fn () (show 2))) (g))",
     "(let ((p (pair 1 2))) (right! p p) (show (left p)) (show p))",
+    "(let ((p (pair 1 2))) (show (left! p 3)) (show p) (show (right! p 4)) (show p) (show (pair (right p) (left p))))",
+    "(let ((p (pair 1 2)) (f (fn () 1))) (keep k (show (pair (pair? p) (pair (none? none) (pair (rest? k) (fun? f)))))))",
+    "(let ((p (pair 1 2)) (f (fn () 1))) (keep k (show (pair (pair? f) (pair (none? p) (pair (rest? f) (fun? k)))))))",
+    "(let ((p (pair 1 2)) (f (fn () 1))) (keep k (show (pair (same? p p) (pair (same? f p) (pair (same? k k) (same? 1 true)))))))",
     "(quot (show 1) (show 0))", "(* (show 1000000000) 2)", "((fn (a) 1))", "(show (1 2))", "(left! 1 2)",
     "(wind (fn () (show 1)) (left (show 2)) (fn () (show 3)))", "(wind (fn (a) 1) 2 (fn () 3))", "(wind (fn () 1) 2 3)",
     "(mark (keep k (wind k 2 (fn () 3))))", "(take k (show k))", "(take k (do (show 1) (k 2)))",
@@ -261,6 +265,12 @@ class Inputs(unittest.TestCase):
         asks = [1, 2]
         walk(read_program("(show (ask)) (show (ask)) (show (ask))"), asks)
         self.assertEqual(asks, [1, 2])
+
+    def test_defaults(self):
+        tree = read_program("(rec ((f (fn (n) (do (show (ask)) (f (+ n 1)))))) (f 0))")
+        self.assertEqual(walk(tree), Seen(("none",) * 2000, FUEL))
+        walked = walk_counted(tree)
+        self.assertEqual((walked.calls, walked.asked, walked.end), (2000, 0, FUEL))
 
     def test_by_keyword(self):
         tree = read_program("(show (ask)) ((fn () 1))")
