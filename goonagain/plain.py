@@ -74,17 +74,16 @@ class PlainMachine(Machine):
     def _given(self, worth):
         """Gives a value to the topmost frame: the rows and env that go on, or None and () at a stop."""
         while self._frames and worth is not None:
-            birth = self._frames[-1]
-            frame = self._things[birth]
+            frame = self._things[self._frames[-1]]
             self._frames = self._frames[:-1]
             if frame[0] == "wait":
                 return (self.program.places[frame[1]][2], frame[2] + (worth,))
-            worth = self._passed_on(birth, frame, worth)
+            worth = self._passed_on(frame, worth)
         if worth is not None:
             self.outcome = ("end",)
         return (None, ())
 
-    def _passed_on(self, birth, frame, worth):
+    def _passed_on(self, frame, worth):
         """The value that a frame without rows gives on, or None at a call or a fault."""
         word = frame[0]
         if word == "mark":
