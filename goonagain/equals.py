@@ -176,11 +176,14 @@ def _gone_on(tree, word):
 
 
 def _gokept(tree, whole):
-    return None if has_take(whole) else _gone_on(tree, "keep")
+    # The whole tree is looked at last, as it may be large.
+    other = _gone_on(tree, "keep")
+    return None if other is None or has_take(whole) else other
 
 
 def _gotaken(tree, whole):
-    return _gone_on(tree, "take") if winds_guarded(whole) else None
+    other = _gone_on(tree, "take")
+    return other if other is not None and winds_guarded(whole) else None
 
 
 def _marktake(tree, whole):

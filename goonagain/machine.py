@@ -1,7 +1,7 @@
 """What the machines share: inputs, values, operations, calls and outcomes."""
 
 from goonagain.errors import BadAsks
-from goonagain.standing import Standing, reached
+from goonagain.standing import Standing, reached_by
 from goonagain.values import FALSE, GREATEST, NONE, TRUE, is_whole
 
 MOST_ASKS = 40
@@ -155,15 +155,20 @@ class Machine:
         self._handed = handed
 
     def _standing_with(self, frames):
-        """The standing with these present frames, for a machine whose things are those of part 3."""
-        things = reached(self._callee, self._handed, frames, self._things)
+        """The standing with these present frames."""
+        things = reached_by(self._callee, self._handed, frames, self._told_thing)
         told = self._told_before + len(self.shown)
         return Standing(
             self._callee, self._handed, frames, things, self._born, self.calls, self.asked, told
         )
 
+    def _told_thing(self, birth):
+        """The thing of a birth as a standing tells it."""
+        return self._things[birth]
+
     def _put_back(self, standing):
         """Makes all but the frames as they were when a standing was told."""
+        self.copied = 0
         self.calls = standing.calls
         self.asked = standing.asked
         self.outcome = None
@@ -173,11 +178,15 @@ class Machine:
         self._told_before = standing.shown
         self._stand_at(standing.callee, tuple(standing.handed))
 
+    def _next_birth(self):
+        self._born += 1
+        return self._born
+
     def _make(self, thing):
         """Makes a thing; returns its birth."""
-        self._born += 1
-        self._things[self._born] = thing
-        return self._born
+        birth = self._next_birth()
+        self._things[birth] = thing
+        return birth
 
     def _make_funs(self, funs, env):
         """Makes funs of (body, slots); the slots count the new funs behind env. Returns their values."""
@@ -199,6 +208,14 @@ class Machine:
         if thing[0] == "once" and thing[2] == 1:
             return "once"
         return None
+
+    def _passed_once(self, rest, worth):
+        """The value that the place of a once rest gives on, or None behind a fault."""
+        if self._things[rest][2] == 1:
+            self._fail("once")
+            return None
+        self._things[rest] = ("once", (), 1)
+        return worth
 
     def _ask(self):
         if self.asked == len(self.asks):

@@ -94,13 +94,6 @@ class PlainMachine(Machine):
             return self._stepped(("leave", frame[2], self._frames, ("out",)), ("give", worth))
         return self._stepped(next_step(self._frames, frame[1], self._things), frame[2])
 
-    def _passed_once(self, rest, worth):
-        if self._things[rest][2] == 1:
-            self._fail("once")
-            return None
-        self._things[rest] = ("once", (), 1)
-        return worth
-
     def _run(self, rows, env):
         """Runs rows up to the next call or the outcome."""
         while rows is not None:

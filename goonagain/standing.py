@@ -24,29 +24,34 @@ class Standing:
 
 def reached(callee, handed, frames, things):
     """The things that are reached, as a tuple of (birth, thing) in ascending order of births."""
+    return reached_by(callee, handed, frames, lambda birth: things[birth])
+
+
+def reached_by(callee, handed, frames, thing_of):
+    """As reached; thing_of gives the thing of a birth, and is asked for a rest or a way ahead of its frames."""
     found = {}
-    waiting = _births_in([callee]) + _births_in(handed) + list(frames)
+    waiting = births_in((callee,)) + births_in(handed) + list(frames)
     # A list of what is still to be looked at, as things may lie thousands deep.
     while waiting:
         birth = waiting.pop()
         if birth not in found:
-            found[birth] = things[birth]
-            waiting.extend([named for named in _births_of(things[birth]) if named not in found])
+            found[birth] = thing_of(birth)
+            waiting.extend([named for named in births_of(found[birth]) if named not in found])
     return tuple([(birth, found[birth]) for birth in sorted(found)])
 
 
-def _births_in(worths):
+def births_in(worths):
     """The births that values name."""
     return [worth[1] for worth in worths if isinstance(worth, tuple) and len(worth) == 2]
 
 
-def _births_of(thing):
+def births_of(thing):
     """The births that a thing names."""
     word = thing[0]
     if word in ("pair", "wind"):
-        return _births_in(thing[1:])
+        return births_in(thing[1:])
     if word in ("fun", "wait"):
-        return _births_in(thing[2])
+        return births_in(thing[2])
     if word in ("keep", "once", "piece"):
         return list(thing[1])
     if word == "pass":
@@ -59,5 +64,5 @@ def _births_of(thing):
 def _births_of_way(road, then):
     frames = list(road[1]) if road[0] in ("to", "on") else []
     if then[0] == "give":
-        return frames + _births_in([then[1]])
-    return frames + _births_in([then[1]]) + _births_in(then[2])
+        return frames + births_in(then[1:])
+    return frames + births_in(then[1:2]) + births_in(then[2])

@@ -14,7 +14,9 @@ NEEDS = {
     "errors": (), "reader": ("errors",), "printer": (), "trees": (), "scopes": ("errors", "trees"),
     "plainset": ("scopes", "trees"), "program": ("plainset", "printer", "reader", "scopes"), "values": (), "standing": (),
     "machine": ("values", "standing", "errors"), "plain": ("machine", "ways"), "ways": (), "bounce": (),
-    "walker": ("machine", "bounce"), "equals": ("errors", "trees", "scopes"),
+    "walker": ("machine", "bounce"), "equals": ("errors", "trees", "scopes"), "turner": ("equals", "errors", "trees"),
+    "rows": (), "compiler": ("rows",), "codejudge": ("rows",), "pile": ("rows",),
+    "pilemachine": ("codejudge", "compiler", "errors", "machine", "pile", "rows", "standing"), "segments": (),
 }
 # What each file defines: functions with their parameters, classes with their methods.
 FUNCTIONS = {
@@ -28,6 +30,10 @@ FUNCTIONS = {
     "bounce": {"run_bounces": "bounce most"}, "walker": {"walk": "tree asks fuel", "walk_counted": "tree asks fuel"},
     "equals": {"is_literal": "tree", "is_calm": "tree", "uses_of": "tree name", "has_take": "whole", "winds_guarded": "whole",
                "turn_here": "tree name whole"},
+    "turner": {"list_turns": "whole", "turned": "whole path name", "turn_all": "whole names"}, "rows": {"place_layouts": "program"},
+    "compiler": {"compiled_code": "program", "code_text": "code", "turned_code": "code cuts"},
+    "codejudge": {"code_fault": "program code"},
+    "pile": {"frames_of": "layouts slots roads", "slots_of": "layouts frames things"}, "segments": {"cut_blocks": "frames things"},
 }
 CLASSES = {
     "program": {"Program": {"__init__": "self text", "of_tree": "tree"}},
@@ -37,6 +43,12 @@ CLASSES = {
     "plain": {"PlainMachine": {"__init__": "self program asks fuel", "standing": "self", "restored": "program asks standing fuel"}},
     "bounce": {"Bounce": {"__init__": "self deed worth"}},
     "walker": {"Walked": {"__init__": "self shows end calls asked deeds", "__eq__": "self other"}},
+    "turner": {"Turned": {"__init__": "self tree turns", "__eq__": "self other"}},
+    "rows": {"Layout": {"__init__": "self size kept offsets outer", "__eq__": "self other"},
+             "Code": {"__init__": "self rows places bodies", "__eq__": "self other"}},
+    "pilemachine": {"PileMachine": {"__init__": "self program asks fuel code", "standing": "self", "pile_slots": "self",
+                                    "roads_kept": "self", "restored": "program asks standing fuel code"}},
+    "segments": {"Holding": {"__init__": "self blocks present opened rows", "__eq__": "self other"}},
 }
 BUILTINS = """len range enumerate zip min max sum abs sorted reversed int str bool list tuple dict set isinstance ord repr any all
     divmod getattr hasattr setattr iter next map super staticmethod property ValueError TypeError KeyError IndexError LookupError
@@ -235,6 +247,16 @@ class Interface(unittest.TestCase):
         self.assertEqual(list(defaults("plain", "__init__")), [["()", "2000"]])
         self.assertEqual(list(defaults("plain", "restored")), [["2000"]])
         self.assertEqual(list(defaults("bounce", "run_bounces")), [["1000000"]])
+        self.assertEqual(list(defaults("turner", "turn_all")), [["TURN_NAMES"]])
+        self.assertEqual(list(defaults("pilemachine", "__init__")), [["()", "2000"]])
+        self.assertEqual(list(defaults("pilemachine", "restored")), [["2000"]])
+
+    def test_code_is_passed_by_keyword_alone(self):
+        trees = {name[:-3]: ast.parse(text) for name, text in package()}
+        for module in ("pilemachine",):
+            found = [node.args for node in ast.walk(trees[module]) if isinstance(node, ast.FunctionDef) and node.args.kwonlyargs]
+            self.assertEqual([[one.arg for one in args.kwonlyargs] for args in found], [["code"], ["code"]])
+            self.assertEqual([[one.value for one in args.kw_defaults] for args in found], [[None], [None]])
 
 
 if __name__ == "__main__":

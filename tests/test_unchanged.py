@@ -3,16 +3,23 @@
 import copy
 import unittest
 
+from goonagain.codejudge import code_fault
+from goonagain.compiler import compiled_code, turned_code
 from goonagain.equals import TURN_NAMES, turn_here, uses_of
-from goonagain.errors import BadAsks, BadName, BadText, BadTurnName
+from goonagain.errors import BadAsks, BadCode, BadName, BadText, BadTurnName, NoTurn
 from goonagain.machine import run_seen
+from goonagain.pile import frames_of, slots_of
+from goonagain.pilemachine import PileMachine
 from goonagain.plain import PlainMachine
 from goonagain.plainset import without_set
 from goonagain.program import Program
 from goonagain.reader import read_program
+from goonagain.rows import Code, place_layouts
 from goonagain.scopes import check_names, free_names, set_names
+from goonagain.segments import cut_blocks
 from goonagain.standing import reached
 from goonagain.trees import parts_of, tree_at, tree_paths, tree_with, with_parts
+from goonagain.turner import list_turns, turn_all, turned
 from goonagain.walker import walk_counted
 from goonagain.ways import deeds_of_way, lay_on, mark_cut, next_step, shared_winds, winds_of
 
@@ -38,6 +45,9 @@ class Unchanged(unittest.TestCase):
                       tree_at(tree, [2, 0]), tree_with(tree, [2, 0], ("none",)), with_parts(tree, list(parts_of(tree))),
                       uses_of(tree[2], "n"), Program(TEXT).bodies, Program(TEXT).places):
             all_tuples(self, thing)
+        found = turn_all(tree, ["unlet", "known"])
+        for thing in (list_turns(tree), found.tree, found.turns, turned(("do", (("none",),)), [], "lone")):
+            all_tuples(self, thing)
         for name in TURN_NAMES:
             all_tuples(self, turn_here(read_program("((fn (a b) a) 1 2)"), name, tree))
 
@@ -50,6 +60,28 @@ class Unchanged(unittest.TestCase):
                       reached(("rest", 5), [1, ("rest", 5)], present, things)):
             all_tuples(self, thing)
         self.assertEqual((present, goal, things), ([1, 2, 3, 4], [2, 1, 4, 3], THINGS))
+
+    def test_functions_over_pile_code_return_tuples(self):
+        program = Program(TEXT)
+        code = compiled_code(program)
+        lists = Code(list(code.rows), list(code.places), list(code.bodies))
+        turned_about = turned_code(lists, [3, 9])
+        for thing in (code.rows, code.places, code.bodies, turned_about.rows, turned_about.places, turned_about.bodies,
+                      cut_blocks([4, 2, 4], THINGS), code_fault(program, Code([], code.places, code.bodies))):
+            all_tuples(self, thing)
+        self.assertEqual((lists.rows, lists.places, lists.bodies), (list(code.rows), list(code.places), list(code.bodies)))
+        layouts = place_layouts(program)
+        for layout in layouts:
+            all_tuples(self, layout.offsets)
+        machine = PileMachine(program, (1,))
+        while machine.outcome is None:
+            slots, roads, things = list(machine.pile_slots()), machine.roads_kept(), dict(machine.standing().things)
+            before = copy.deepcopy((slots, roads, things))
+            all_tuples(self, frames_of(layouts, slots, roads))
+            all_tuples(self, slots_of(layouts, list(machine.standing().frames), things))
+            all_tuples(self, tuple(roads.values()))
+            self.assertEqual((slots, roads, things), before)
+            machine.advance()
 
     def test_lists_that_are_changed_later(self):
         parts = [("number", 1), ("number", 2)]
@@ -67,16 +99,19 @@ class Unchanged(unittest.TestCase):
     def test_a_machine_changes_neither_its_program_nor_its_inputs(self):
         program, asks = Program(TEXT), [4, 5, 6]
         before = copy.deepcopy(vars(program))
-        machine = PlainMachine(program, asks)
-        while machine.outcome is None:
-            standing = machine.standing()
-            told = copy.deepcopy(vars(standing))
-            machine.advance()
-            self.assertEqual(vars(standing), told)
-            all_tuples(self, standing.things)
-            all_tuples(self, (standing.callee, standing.handed, standing.frames, machine.shown))
-        self.assertEqual(vars(program), before)
-        self.assertEqual(asks, [4, 5, 6])
+        for kind in (PlainMachine, PileMachine):
+            machine = kind(program, asks)
+            while machine.outcome is None:
+                standing = machine.standing()
+                told = copy.deepcopy(vars(standing))
+                other = kind.restored(program, asks, standing)
+                machine.advance()
+                run_seen(other)
+                self.assertEqual(vars(standing), told)
+                all_tuples(self, standing.things)
+                all_tuples(self, (standing.callee, standing.handed, standing.frames, machine.shown))
+            self.assertEqual(vars(program), before)
+            self.assertEqual(asks, [4, 5, 6])
 
     def test_two_runs_of_one_program_are_alike(self):
         program = Program(TEXT)
@@ -91,7 +126,10 @@ class Unchanged(unittest.TestCase):
         program = Program("(show (ask))")
         for call, error in ((lambda: PlainMachine(program, asks), BadAsks), (lambda: walk_counted(program.tree, asks), BadAsks),
                             (lambda: check_names(tree), BadName), (lambda: Program("(x"), BadText),
-                            (lambda: Program.of_tree(tree), BadName), (lambda: turn_here(tree, "no", tree), BadTurnName)):
+                            (lambda: Program.of_tree(tree), BadName), (lambda: turn_here(tree, "no", tree), BadTurnName),
+                            (lambda: turned(tree, [1], "fold"), NoTurn), (lambda: turn_all(tree, ["fold", 1]), BadTurnName),
+                            (lambda: PileMachine(program, asks), BadAsks),
+                            (lambda: PileMachine(program, code=Code((), (), (0,))), BadCode)):
             for _ in range(2):
                 self.assertRaises(error, call)
         self.assertEqual((asks, things, tree), ([1, True, 3], THINGS, read_program("(+ x 1)")))
