@@ -18,9 +18,11 @@ def count_frames(slots):
     return len([slot for slot in slots if is_marker(slot)])
 
 
-def wind_positions(slots):
-    """Where the markers of winds lie, bottom first."""
-    return [position for position, slot in enumerate(slots) if is_marker(slot) and slot[0] == "wind"]
+def winds_in_slots(slots):
+    """The winds among slots as a list of (position, birth, enter, leave), bottom first."""
+    return [
+        (position,) + slot[1:] for position, slot in enumerate(slots) if is_marker(slot) and slot[0] == "wind"
+    ]
 
 
 def slots_to_mark(slots):

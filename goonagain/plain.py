@@ -1,10 +1,10 @@
 """The plain machine: its rest is a bare tuple of frames."""
 
-from goonagain.machine import Machine
+from goonagain.rowmachine import RowMachine
 from goonagain.ways import lay_on, mark_cut, next_step
 
 
-class PlainMachine(Machine):
+class PlainMachine(RowMachine):
     """Runs a program with a tuple of frames."""
 
     KIND = "plain"
@@ -94,37 +94,9 @@ class PlainMachine(Machine):
             return self._stepped(("leave", frame[2], self._frames, ("out",)), ("give", worth))
         return self._stepped(next_step(self._frames, frame[1], self._things), frame[2])
 
-    def _run(self, rows, env):
-        """Runs rows up to the next call or the outcome."""
-        while rows is not None:
-            env = self._bound(rows, env)
-            if env is None:
-                return
-            rows, env = self._finished(rows[-1], env)
-
-    def _bound(self, rows, env):
-        """The env behind all rows but the final one, or None behind a fault."""
-        for row in rows[:-1]:
-            more = self._bound_by(row, env)
-            if more is None:
-                return None
-            env = env + more
-        return env
-
-    def _bound_by(self, row, env):
-        """The values that a row puts at the end of env, or None behind a fault."""
-        word = row[0]
-        if word == "let":
-            worth = self._simple(row[1], env)
-            return None if worth is None else (worth,)
-        if word == "rec":
-            return self._make_funs(row[1], env)
-        if word == "keep":
-            return (("rest", self._make(("keep", self._frames))),)
-        if word == "once":
-            return (("rest", self._make_once()),)
-        self._push(("mark",))
-        return ()
+    def _make_keep(self):
+        """Makes a rest of the present frames; returns its birth."""
+        return self._make(("keep", self._frames))
 
     def _make_once(self):
         """Makes a once rest and its frame, which the rest itself has on top."""
@@ -133,72 +105,14 @@ class PlainMachine(Machine):
         self._things[rest] = ("once", self._frames, 0)
         return rest
 
-    def _finished(self, row, env):
-        """What a final row does: the rows and env that go on, or None and () at a stop."""
-        word = row[0]
-        if word == "wait":
-            self._push(("wait", row[1], env))
-            return (row[2], env)
-        worths = self._simples(_final_simples(row), env)
-        if worths is None:
-            return (None, ())
-        if word == "give":
-            return self._given(worths[0])
-        if word == "if":
-            return (row[3] if worths[0] == ("false",) else row[2], env)
-        if word == "call":
-            self._stand_at(worths[0], worths[1:])
-        elif word == "take":
-            return self._taken(worths[0])
-        else:
-            self._wound(worths)
-        return (None, ())
-
-    def _taken(self, callee):
+    def _take_frames(self, callee):
         """Takes the frames above the nearest mark."""
         cut = mark_cut(self._frames, self._things)
         piece = self._make(("piece", self._frames[cut:]))
         step = next_step(self._frames, ("off",), self._things)
         self._stepped(step, ("call", callee, (("rest", piece),)))
-        return (None, ())
 
-    def _wound(self, worths):
+    def _come_into(self, enter, body, leave):
         """Comes into a wind."""
-        enter, body, leave = worths
         birth = self._make(("wind", enter, leave))
         self._stepped(("enter", enter, self._frames, ("on", (birth,))), ("call", body, ()))
-
-    def _simples(self, simples, env):
-        """The values of simples from left to right, or None behind a fault."""
-        worths = []
-        for simple in simples:
-            worth = self._simple(simple, env)
-            if worth is None:
-                return None
-            worths.append(worth)
-        return tuple(worths)
-
-    def _simple(self, simple, env):
-        """The value of a simple, or None behind a fault."""
-        word = simple[0]
-        if word == "value":
-            return simple[1]
-        if word == "slot":
-            return env[simple[1]]
-        if word == "fun":
-            return self._make_funs((simple[1:],), env)[0]
-        if word == "ask":
-            return self._ask()
-        worths = self._simples(simple[2] if word == "op" else simple[1:], env)
-        if worths is None:
-            return None
-        return self._operate(simple[1], worths) if word == "op" else self._show(worths[0])
-
-
-def _final_simples(row):
-    """The simples of a final row other than wait, in the order of evaluation."""
-    if row[0] == "call":
-        return (row[1],) + row[2]
-    if row[0] == "if":
-        return row[1:2]
-    return row[1:]

@@ -122,7 +122,8 @@ def _count_funs(nodes):
     return many
 
 
-def _is_number(word):
+def is_number(word):
+    """Whether a word is a number word."""
     figures = word[1:] if word.startswith("-") else word
     if figures == "" or len(figures) > len(str(GREATEST)):
         return False
@@ -157,15 +158,20 @@ def _form_of(node):
     least, most = COUNTS[word]
     if not least <= len(nodes) - 1 <= most:
         raise BadText(place, "form")
-    if word not in SHAPES:
+    if is_op(word):
         return ("op", word, _forms_of(nodes[1:]))
     shape = SHAPES[word]
     return shape(word, nodes[1:])
 
 
+def is_op(word):
+    """Whether a word is that of an op."""
+    return word in COUNTS and word not in SHAPES
+
+
 def _form_of_word(node):
     place, word = node
-    if _is_number(word):
+    if is_number(word):
         return ("number", int(word))
     if _is_name(word):
         return ("name", word)

@@ -13,10 +13,14 @@ FOLDER = os.path.dirname(goonagain.__file__)
 NEEDS = {
     "errors": (), "reader": ("errors",), "printer": (), "trees": (), "scopes": ("errors", "trees"),
     "plainset": ("scopes", "trees"), "program": ("plainset", "printer", "reader", "scopes"), "values": (), "standing": (),
-    "machine": ("values", "standing", "errors"), "plain": ("machine", "ways"), "ways": (), "bounce": (),
+    "machine": ("values", "standing", "errors"), "rowmachine": ("machine",), "roadmachine": ("machine",),
+    "plain": ("machine", "rowmachine", "ways"), "ways": (), "bounce": (),
     "walker": ("machine", "bounce"), "equals": ("errors", "trees", "scopes"), "turner": ("equals", "errors", "trees"),
     "rows": (), "compiler": ("rows",), "codejudge": ("rows",), "pile": ("rows",),
-    "pilemachine": ("codejudge", "compiler", "errors", "machine", "pile", "rows", "standing"), "segments": (),
+    "pilemachine": ("codejudge", "compiler", "errors", "machine", "pile", "roadmachine", "rows", "standing"), "segments": (),
+    "piecesmachine": ("segments", "standing", "machine", "rowmachine", "roadmachine"), "heldframes": ("segments", "standing"),
+    "counts": ("heldframes", "piecesmachine"), "onceforkeep": ("trees", "errors"), "jumpcode": ("program",),
+    "jumpjudge": ("jumpcode", "program"), "jumptext": ("errors", "jumpcode", "reader"), "rests": ("standing",),
 }
 # What each file defines: functions with their parameters, classes with their methods.
 FUNCTIONS = {
@@ -34,6 +38,12 @@ FUNCTIONS = {
     "compiler": {"compiled_code": "program", "code_text": "code", "turned_code": "code cuts"},
     "codejudge": {"code_fault": "program code"},
     "pile": {"frames_of": "layouts slots roads", "slots_of": "layouts frames things"}, "segments": {"cut_blocks": "frames things"},
+    "heldframes": {"reached_rows": "standing", "count_beginnings": "standing", "most_held": "standing", "held_frames": "holding"},
+    "counts": {"count_calls": "machine"}, "onceforkeep": {"keep_paths": "tree", "with_once": "tree paths"},
+    "jumpcode": {"compiled_jumps": "program"}, "jumpjudge": {"jump_fault": "program code"},
+    "jumptext": {"jump_text": "code", "read_jumps": "text"},
+    "rests": {"chain_frames": "chain", "chain_of": "frames things", "common_winds": "first second", "cut_under": "chain number",
+              "cut_with": "chain number"},
 }
 CLASSES = {
     "program": {"Program": {"__init__": "self text", "of_tree": "tree"}},
@@ -49,6 +59,12 @@ CLASSES = {
     "pilemachine": {"PileMachine": {"__init__": "self program asks fuel code", "standing": "self", "pile_slots": "self",
                                     "roads_kept": "self", "restored": "program asks standing fuel code"}},
     "segments": {"Holding": {"__init__": "self blocks present opened rows", "__eq__": "self other"}},
+    "piecesmachine": {"PiecesMachine": {"__init__": "self program asks fuel", "standing": "self", "holding": "self",
+                                        "restored": "program asks standing fuel"}},
+    "counts": {"Count": {"__init__": "self calls held beginnings rows copied", "__eq__": "self other"}},
+    "jumpcode": {"JumpCode": {"__init__": "self rows starts returns", "__eq__": "self other"}},
+    "rests": {"Record": {"__init__": "self birth word detail below"}, "MarkRecord": {"__init__": "self birth top outer"},
+              "Chain": {"__init__": "self top marked"}},
 }
 BUILTINS = """len range enumerate zip min max sum abs sorted reversed int str bool list tuple dict set isinstance ord repr any all
     divmod getattr hasattr setattr iter next map super staticmethod property ValueError TypeError KeyError IndexError LookupError
@@ -207,14 +223,23 @@ class Words(unittest.TestCase):
                     for parameter in names_of(node.args):
                         self.check(parameter not in taken, name, node, parameter)
 
-    def test_no_name_is_a_method_and_an_attribute_of_one_class(self):
-        for name, text in package():
+    def test_no_name_is_a_method_and_an_attribute(self):
+        methods, attributes = set(), set()
+        for _, text in package():
             for node in ast.walk(ast.parse(text)):
                 if isinstance(node, ast.ClassDef):
-                    methods = {one.name for one in node.body if isinstance(one, ast.FunctionDef)}
-                    attributes = {one.attr for one in ast.walk(node) if isinstance(one, ast.Attribute)
-                                  and isinstance(one.ctx, ast.Store)}
-                    self.check(not methods & attributes, name, node, methods & attributes)
+                    methods |= {one.name for one in node.body if isinstance(one, ast.FunctionDef)}
+                if isinstance(node, ast.Attribute) and isinstance(node.ctx, ast.Store):
+                    attributes.add(node.attr)
+        self.assertEqual(methods & attributes, set())
+
+    def test_what_is_iterated_on_the_spot_is_not_returned_or_kept(self):
+        for name, text in package():
+            for node in ast.walk(ast.parse(text)):
+                if isinstance(node, (ast.Return, ast.Assign)) and isinstance(node.value, ast.Call):
+                    called = node.value.func
+                    word = called.id if isinstance(called, ast.Name) else called.attr if isinstance(called, ast.Attribute) else ""
+                    self.check(word not in ("range", "zip", "enumerate", "reversed", "items", "keys", "values"), name, node, word)
 
 
 class Interface(unittest.TestCase):
@@ -250,6 +275,8 @@ class Interface(unittest.TestCase):
         self.assertEqual(list(defaults("turner", "turn_all")), [["TURN_NAMES"]])
         self.assertEqual(list(defaults("pilemachine", "__init__")), [["()", "2000"]])
         self.assertEqual(list(defaults("pilemachine", "restored")), [["2000"]])
+        self.assertEqual(list(defaults("piecesmachine", "__init__")), [["()", "2000"]])
+        self.assertEqual(list(defaults("piecesmachine", "restored")), [["2000"]])
 
     def test_code_is_passed_by_keyword_alone(self):
         trees = {name[:-3]: ast.parse(text) for name, text in package()}

@@ -4,7 +4,7 @@ import random
 import unittest
 
 from makeprograms import good_tree
-from writtenprograms import TEXTS
+from writtenprograms import FAULTS, TEXTS
 
 from goonagain.compiler import compiled_code, turned_code
 from goonagain.errors import BadAsks, BadCode
@@ -48,13 +48,13 @@ class Counting(PlainMachine):
             self.road = ("out",)
         return super()._passed_on(frame, worth)
 
-    def _taken(self, callee):
+    def _take_frames(self, callee):
         self.road = ("off",)
-        return super()._taken(callee)
+        super()._take_frames(callee)
 
-    def _wound(self, worths):
+    def _come_into(self, enter, body, leave):
         self.road = ("out",)
-        super()._wound(worths)
+        super()._come_into(enter, body, leave)
 
     def _stepped(self, step, then):
         if self.road[0] == "to" and step[0] != "leave":
@@ -108,14 +108,7 @@ class Beside(Pile):
                 self.beside(program, (4, 5), fuel)
 
     def test_faults_of_every_word(self):
-        for text, word in (
-            ("(+ (show 1) (show none))", "kind"), ("(left (show 1))", "kind"), ("((show 1))", "kind"), ("((fn (a) 1))", "arity"),
-            ("(keep k (k 1 2))", "arity"), ("(quot (show 1) 0)", "zero"), ("(rem 1 0)", "zero"), ("(* 1000000000 (show 2))", "big"),
-            ("(- -1000000000 1)", "big"), ("(let ((p (pair 1 2))) (do (left! p p) (show p)))", "show"),
-            ("(let ((r none)) (do (once k (set r k)) (show 1) (r 2)))", "once"), ("(wind (show 1) 2 3)", "kind"),
-            ("(let ((j none)) (do (once k (keep i (set j i))) (show 1) (j 2)))", "once"), ("(wind (fn () 1) (left 2) 3)", "kind"),
-            ("(wind (fn (a) 1) 2 3)", "arity"), ("(take k (k))", "arity"), ("(let ((r none)) (do (once k (set r k)) (r)))", "arity"),
-        ):
+        for text, word in FAULTS:
             program = Program(text)
             self.assertEqual(run_seen(PileMachine(program)).end, ("fault", word), text)
             self.beside(program, at=1)

@@ -6,14 +6,21 @@ import unittest
 from goonagain.codejudge import code_fault
 from goonagain.compiler import compiled_code, turned_code
 from goonagain.equals import TURN_NAMES, turn_here, uses_of
-from goonagain.errors import BadAsks, BadCode, BadName, BadText, BadTurnName, NoTurn
+from goonagain.errors import BadAsks, BadCode, BadListing, BadName, BadText, BadTurnName, NoKeep, NoTurn
+from goonagain.heldframes import reached_rows
+from goonagain.jumpcode import JumpCode, compiled_jumps
+from goonagain.jumpjudge import jump_fault
+from goonagain.jumptext import jump_text, read_jumps
 from goonagain.machine import run_seen
+from goonagain.onceforkeep import keep_paths, with_once
+from goonagain.piecesmachine import PiecesMachine
 from goonagain.pile import frames_of, slots_of
 from goonagain.pilemachine import PileMachine
 from goonagain.plain import PlainMachine
 from goonagain.plainset import without_set
 from goonagain.program import Program
 from goonagain.reader import read_program
+from goonagain.rests import chain_frames, chain_of
 from goonagain.rows import Code, place_layouts
 from goonagain.scopes import check_names, free_names, set_names
 from goonagain.segments import cut_blocks
@@ -83,6 +90,29 @@ class Unchanged(unittest.TestCase):
             self.assertEqual((slots, roads, things), before)
             machine.advance()
 
+    def test_functions_over_jump_code_return_tuples(self):
+        program = Program(TEXT)
+        code = compiled_jumps(program)
+        lists = JumpCode(list(code.rows), list(code.starts), list(code.returns))
+        read = read_jumps(jump_text(lists))
+        for thing in (code.rows, code.starts, code.returns, read.rows, read.starts, read.returns,
+                      jump_fault(program, JumpCode([], [], [])), keep_paths(program.tree), with_once(program.tree, [])):
+            all_tuples(self, thing)
+        self.assertIsNone(jump_fault(program, lists))
+        self.assertEqual((lists.rows, lists.starts, lists.returns), (list(code.rows), list(code.starts), list(code.returns)))
+
+    def test_what_is_told_of_frames_is_tuples(self):
+        machine = PiecesMachine(Program(TEXT), (1,))
+        while machine.outcome is None:
+            standing, holding = machine.standing(), machine.holding()
+            things = dict(standing.things)
+            before = copy.deepcopy((vars(standing), vars(holding), things))
+            all_tuples(self, (holding.blocks, holding.present, holding.opened, holding.rows))
+            all_tuples(self, reached_rows(standing))
+            all_tuples(self, chain_frames(chain_of(list(standing.frames), things)))
+            machine.advance()
+            self.assertEqual((vars(standing), vars(holding), things), before)
+
     def test_lists_that_are_changed_later(self):
         parts = [("number", 1), ("number", 2)]
         tree = with_parts(("do", (("none",), ("none",))), parts)
@@ -99,7 +129,7 @@ class Unchanged(unittest.TestCase):
     def test_a_machine_changes_neither_its_program_nor_its_inputs(self):
         program, asks = Program(TEXT), [4, 5, 6]
         before = copy.deepcopy(vars(program))
-        for kind in (PlainMachine, PileMachine):
+        for kind in (PlainMachine, PileMachine, PiecesMachine):
             machine = kind(program, asks)
             while machine.outcome is None:
                 standing = machine.standing()
@@ -128,7 +158,8 @@ class Unchanged(unittest.TestCase):
                             (lambda: check_names(tree), BadName), (lambda: Program("(x"), BadText),
                             (lambda: Program.of_tree(tree), BadName), (lambda: turn_here(tree, "no", tree), BadTurnName),
                             (lambda: turned(tree, [1], "fold"), NoTurn), (lambda: turn_all(tree, ["fold", 1]), BadTurnName),
-                            (lambda: PileMachine(program, asks), BadAsks),
+                            (lambda: PileMachine(program, asks), BadAsks), (lambda: PiecesMachine(program, asks), BadAsks),
+                            (lambda: with_once(tree, [[0]]), NoKeep), (lambda: read_jumps("starts"), BadListing),
                             (lambda: PileMachine(program, code=Code((), (), (0,))), BadCode)):
             for _ in range(2):
                 self.assertRaises(error, call)

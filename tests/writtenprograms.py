@@ -48,3 +48,13 @@ TEXTS = (
       (do (start (fn () (do (show 1) (away) (show 2) (wind (fn () (show 3)) (do (away) none) (fn () (show 4))))))
       (start (fn () (do (show 5) (away) (start (fn () (show 6))) none))) (run))))""",
 )
+
+# Programs that end with a fault, and its word.
+FAULTS = (
+    ("(+ (show 1) (show none))", "kind"), ("(left (show 1))", "kind"), ("((show 1))", "kind"), ("((fn (a) 1))", "arity"),
+    ("(keep k (k 1 2))", "arity"), ("(quot (show 1) 0)", "zero"), ("(rem 1 0)", "zero"), ("(* 1000000000 (show 2))", "big"),
+    ("(- -1000000000 1)", "big"), ("(let ((p (pair 1 2))) (do (left! p p) (show p)))", "show"),
+    ("(let ((r none)) (do (once k (set r k)) (show 1) (r 2)))", "once"), ("(wind (show 1) 2 3)", "kind"),
+    ("(let ((j none)) (do (once k (keep i (set j i))) (show 1) (j 2)))", "once"), ("(wind (fn () 1) (left 2) 3)", "kind"),
+    ("(wind (fn (a) 1) 2 3)", "arity"), ("(take k (k))", "arity"), ("(let ((r none)) (do (once k (set r k)) (r)))", "arity"),
+)
