@@ -39,7 +39,7 @@ class PiecesMachine(RowMachine, RoadMachine):
         """The present standing, or None at an outcome."""
         if self.outcome is not None:
             return None
-        return self._standing_with(_frames_in(self._present) + tuple(self._open_row))
+        return self._standing_with(tuple(self._present_births()))
 
     @staticmethod
     def restored(program, asks, standing, fuel=2000):
@@ -52,12 +52,12 @@ class PiecesMachine(RowMachine, RoadMachine):
 
     def holding(self):
         """What is held at the present call, or None at an outcome."""
-        standing = self.standing()
-        if standing is None:
+        if self.outcome is not None:
             return None
         held = {block.number: block.frames for block in self._present}
         rows = []
-        for birth, _ in standing.things:
+        named = births_in((self._callee,)) + births_in(self._handed)
+        for birth in sorted(self._found_from(named + self._present_births(), {})):
             blocks = self._blocks_held(birth)
             if blocks is not None:
                 rows.append((birth, tuple([block.number for block in blocks])))
@@ -65,6 +65,9 @@ class PiecesMachine(RowMachine, RoadMachine):
                     held[block.number] = block.frames
         present = tuple([block.number for block in self._present])
         return Holding(tuple(sorted(held.items())), present, tuple(self._open_row), tuple(rows))
+
+    def _present_births(self):
+        return list(_frames_in(self._present)) + self._open_row
 
     def _blocks_held(self, birth):
         """The blocks of a rest or of the road of a way frame; None for another thing or road."""
@@ -242,20 +245,29 @@ class PiecesMachine(RowMachine, RoadMachine):
         self._holders[block.number] = list(holders)
         if not holders:
             return False
-        found = {}
-        passed = {}
-        for root in births_in((worth,)) + list(_frames_in(self._present) + block.frames):
-            waiting = [root]
-            while waiting:
-                birth = waiting.pop()
-                if birth in holders:
-                    return True
-                if birth not in found:
-                    found[birth] = self._things[birth]
-                    waiting.extend(self._births_named(birth, passed))
+        roots = births_in((worth,)) + self._present_births() + list(block.frames)
+        found = self._found_from(roots, holders)
+        if found is None:
+            return True
         # Whatever was not found now is never reached again, so that it need not be looked for anew.
         self._things = found
         return False
+
+    def _found_from(self, roots, wanted):
+        """The things that are reached from births, by birth; None as soon as one of the wanted ones is met."""
+        found = {}
+        passed = {}
+        for root in roots:
+            # What a root names is looked at wholly ahead of the next root: mostly a wanted one is near the first.
+            waiting = [root]
+            while waiting:
+                birth = waiting.pop()
+                if birth in wanted:
+                    return None
+                if birth not in found:
+                    found[birth] = self._things[birth]
+                    waiting.extend(self._births_named(birth, passed))
+        return found
 
     def _births_named(self, birth, passed):
         """The births that a thing names, but for the frames of blocks that were passed before."""

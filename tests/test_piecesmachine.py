@@ -14,6 +14,7 @@ from goonagain.pilemachine import PileMachine
 from goonagain.plain import PlainMachine
 from goonagain.program import Program
 from goonagain.segments import Holding, cut_blocks
+from goonagain.standing import reached_by
 from goonagain.trees import tree_at, tree_paths
 
 END = ("end",)
@@ -28,6 +29,18 @@ def rows_of(standing):
         elif thing[0] == "way" and thing[1][0] in ("to", "on"):
             rows[birth] = thing[1][1]
     return rows
+
+
+class Naive(PiecesMachine):
+    """A pieces machine that looks at all that is reached whenever a block is opened, as [9.5] says it."""
+
+    def _is_held(self, block, worth):
+        frames = tuple(birth for one in self._present + [block] for birth in one.frames)
+        for birth, thing in reached_by(worth, (), frames, self._told_thing):
+            blocks = self._blocks_held(birth)
+            if blocks is not None and any(one is block for one in blocks):
+                return True
+        return False
 
 
 class Pieces(unittest.TestCase):
@@ -286,6 +299,21 @@ class Copies(Pieces):
             machine = PiecesMachine(Program.of_tree(tree), (), 60)
             run_seen(machine)
             self.assertEqual(machine.copied, 0)
+
+    def test_beside_a_machine_that_looks_at_all_that_is_reached(self):
+        many = 0
+        programs = [Program(text) for text in TEXTS]
+        programs += [Program.of_tree(tree) for tree in (good_tree(seed, deep=6, gentle=seed % 2 == 0) for seed in range(400))
+                     if tree is not None]
+        for program in programs:
+            one, other = PiecesMachine(program, (1, 2), 60), Naive(program, (1, 2), 60)
+            while one.outcome is None:
+                self.assertEqual((one.copied, one.holding(), one.standing()), (other.copied, other.holding(), other.standing()))
+                one.advance()
+                other.advance()
+            self.assertEqual((one.copied, one.outcome), (other.copied, other.outcome))
+            many += one.copied
+        self.assertGreater(many, 100)
 
     def test_never_more_than_the_pile_machine(self):
         many = 0
