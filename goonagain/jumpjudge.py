@@ -169,7 +169,7 @@ class JumpWalk:
         made = len(row[2]) if word == "rec" else 1
         names = [("made", self.steps, number) for number in range(made)]
         if word == "rec":
-            # The captured cells are looked up behind the funs that are made.
+            # The captured cells are looked up behind the funs that are made: these are written already.
             self._write(row[1], names)
         if self._step_of(row) != due:
             return ("step", self.address)
@@ -177,7 +177,7 @@ class JumpWalk:
             if not self._is_ahead(row[2]):
                 return ("jump", self.address)
             self.otherwise = row[2]
-        elif word in WRITING_WORDS and word != "rec":
+        elif word in WRITING_WORDS:
             self._write(row[1], names)
         self.steps += 1
         self.address += 1

@@ -99,8 +99,6 @@ def row_instructions(row, layout):
     """The instructions of a row but those of the rows in it; the last one of an "if" has no address yet."""
     word = row[0]
     kept = layout.kept
-    if word == "keep":
-        return ((word, kept),)
     if word in ("once", "mark"):
         return ((word, kept, layout.offsets),)
     if word == "wait":

@@ -70,6 +70,12 @@ class Compiled(unittest.TestCase):
                   ("value", 1), ("value", 2), ("fun", 1, (1, 0)), ("give", 0),
                   ("slot", 0), ("slot", 2), ("slot", 1), ("call", 2, 0))
 
+    def test_funs_that_capture_above_a_marker(self):
+        # b is slot 2, but a marker lies at 2: its offset is 3.
+        self.code("(let ((a 1)) (+ a (let ((b 2)) (b (fn () (a b))))))", (0, 7), (10,),
+                  ("value", 1), ("slot", 0), ("wait", 0), ("value", 2), ("slot", 3), ("fun", 1, (0, 3)), ("call", 1, 3),
+                  ("slot", 0), ("slot", 1), ("call", 1, 0), ("slot", 1), ("slot", 2), ("op", "+", 2), ("give", 0))
+
     def test_wait(self):
         self.code("(+ 1 (+ 2 (3)))", (0,), (6, 10),
                   ("value", 1), ("wait", 0), ("value", 2), ("wait", 1), ("value", 3), ("call", 0, 4),
@@ -171,6 +177,9 @@ class TurnedCode(unittest.TestCase):
     def test_no_cuts(self):
         for cuts in ((), [], (0, 7, 8, -1, 100), (0, 0)):
             self.assertEqual(turned_code(self.CODE, cuts), self.CODE)
+        open_end = Code((("ask",), ("value", 1)), (), (0,))
+        for cuts in ((), (0,), (2,), [0, 2, -1], (True, False), ("1", None)):
+            self.assertEqual(turned_code(open_end, cuts), open_end)
 
     def test_one_cut(self):
         # ask, unless | value, show, give, value, call: the first run goes on.
@@ -216,6 +225,12 @@ class TurnedCode(unittest.TestCase):
         for row in (("value", 1), ("slot", 0), ("fun", 1, ()), ("op", "+", 2), ("show",), ("ask",), ("rec", ((1, ()),)), ("keep", 0),
                     ("once", 0, ()), ("mark", 0, ()), ("wait", 0), ("unless", 0)):
             self.assertEqual(turned_code(Code((row, ("ask",)), (), (0,)), (1,)).rows[2], ("jump", 0))
+
+    def test_rows_that_are_no_instructions(self):
+        for row in (None, (), 7, "give", ["give", 0], ["jump", 1], ("jumps", 1), ("unless",), ("unless", 1, 1)):
+            self.assertEqual(turned_code(Code((row, ("ask",)), (), (0,)), (1,)).rows, (("ask",), row, ("jump", 0)))
+        for row in (("jump",), ("jump", 1, 1), ("give",), ("call", 1, 2, 3)):
+            self.assertEqual(turned_code(Code((row, ("ask",)), (), (0,)), (1,)).rows, (("ask",), row))
 
     def test_what_fits_still_fits(self):
         chance = random.Random(1)

@@ -206,6 +206,15 @@ class Words(Judged):
         program = Program("(fn (x) (- x 1))")
         self.changed(program, ("step", 3), {3: ("op", 1, "-", (0, 0))})
 
+    def test_values_from_ahead_of_a_branch(self):
+        # In either branch the two inputs are unlike: that ahead of the test, and that behind it.
+        program = Program("(let ((a (ask))) (if a (- a (ask)) (- a (ask))))")
+        # 0 ask 0, 1 unless 0 5, 2 ask 1, 3 op 1 - (0 1), 4 back 1, 5 ask 1, 6 op 1 - (0 1), 7 back 1
+        self.changed(program, None)
+        for address in (3, 6):
+            for cells in ((0, 0), (1, 1), (1, 0)):
+                self.changed(program, ("step", address), {address: ("op", 1, "-", cells)})
+
     def test_one_step_too_many_or_too_few(self):
         self.fault(Program("(show 1)"), ("step", 1), [("value", 0, 1), ("back", 0)])
         self.fault(Program("1"), ("step", 1), [("value", 0, 1), ("show", 0, 0), ("back", 0)])

@@ -146,6 +146,20 @@ class Bad(unittest.TestCase):
             self.bad("starts 0\nreturns\n" + line + "\nback 0\n", 3)
             self.bad("starts 0\nreturns\nmark\nmark\n" + line + "\n", 5)
 
+    def test_each_number(self):
+        for line in ("value 1 2", "copy 1 2", "fun 1 2 3 4", "op 1 + 3 4", "show 1 2", "ask 1", "rec 1 2 1 4 5 0", "keep 1", "once 1", "save 1",
+                     "unless 1 2", "jump 1", "back 1", "call 1 2 3", "take 1", "wind 1 2 3"):
+            words = line.split(" ")
+            for at in range(1, len(words)):
+                if words[at] == "+":
+                    continue
+                others = ("01", "00", "-0", "x", "", "1 ", "+1", "1.0", "None", "-", "\u0662")
+                if words[0] != "value" or at == 1:
+                    others = others + ("-1", "true", "none", "100000")
+                for other in others:
+                    changed = " ".join(words[:at] + [other] + words[at + 1:])
+                    self.bad("starts 0\nreturns\n" + changed + "\n", 3)
+
     def test_the_first_bad_line(self):
         self.bad("starts 0\nreturns\nmark\nmarks\nmarks\n", 4)
         self.bad("x\ny\nz\n", 1)

@@ -14,7 +14,7 @@ from goonagain.pilemachine import PileMachine
 from goonagain.plain import PlainMachine
 from goonagain.program import Program
 from goonagain.segments import Holding, cut_blocks
-from goonagain.standing import reached_by
+from goonagain.standing import Standing, reached, reached_by
 from goonagain.trees import tree_at, tree_paths
 
 END = ("end",)
@@ -288,6 +288,29 @@ class Copies(Pieces):
         run_seen(other)
         self.assertEqual((machine.copied, other.copied), (1, 1))
 
+    def test_restored_amid_a_road_that_alone_holds_the_blocks(self):
+        program = Program("(let ((p none)) (show (keep k (mark (wind (fn () 0) (k 5) (fn () (take j (set p j))))))))")
+        machine = PiecesMachine(program)
+        found = []
+        while machine.outcome is None:
+            other = PiecesMachine.restored(program, (), machine.standing())
+            run_seen(other)
+            found.append(other.copied)
+            machine.advance()
+        self.assertEqual(found, [1] * 5)
+        # A road "on" that a piece has kept: its wind's block and the frame's above it.
+        program = Program("""(let ((p none) (q none)) (do (mark (wind (fn () (if (rest? p) (take j (set q j)) 0)) (show (take k (set p k))) (fn () 0)))
+            (mark (p 1)) (mark (q 2)) 3))""")
+        machine = PiecesMachine(program)
+        while machine.outcome is None:
+            other, naive = PiecesMachine.restored(program, (), machine.standing()), Naive(program)
+            naive._put_back(machine.standing())
+            naive._put_into_blocks(machine.standing().frames)
+            run_seen(other)
+            run_seen(naive)
+            self.assertEqual((other.copied, other.outcome), (naive.copied, naive.outcome))
+            machine.advance()
+
     def test_no_copies_without_keep_once_and_take(self):
         for seed in range(120):
             tree = good_tree(seed, takes=False)
@@ -459,6 +482,23 @@ class Made(Pieces):
                 pieces.advance()
                 pile.advance()
                 self.assertEqual((pieces.standing(), pieces.outcome, pieces.shown), (pile.standing(), pile.outcome, pile.shown))
+
+    def test_a_standing_that_no_run_of_the_program_comes_to(self):
+        # The births mean other things than in the program's own run up to its first call.
+        things = (
+            (2, ("fun", 1, ())), (3, ("wait", 0, ())), (4, ("wind", ("fun", 2), ("fun", 2))), (5, ("mark",)),
+            (6, ("way", ("to", (3, 4), 1), ("give", 7))), (8, ("keep", (3, 4, 5))), (9, ("piece", (4,))),
+            (11, ("way", ("on", (4,)), ("call", ("rest", 9), (("rest", 8),)))), (12, ("wait", 0, ())))
+        program = Program("(show (wind (fn () (show 1)) (keep k (k k)) (fn () (show 2))))")
+        for frames, callee in (((3, 4, 5, 6, 12), ("rest", 8)), ((3, 5, 11), ("fun", 2)), ((3, 4, 5, 11, 5, 6), ("rest", 9))):
+            reach = reached(callee, (), frames, dict(things + ((13, ("pair", ("rest", 8), ("rest", 9))),)))
+            standing = Standing(callee, (5,) if callee[0] == "rest" else (), frames, reach, 13, 0, 0, 0)
+            plain, other = PlainMachine.restored(program, (), standing), PiecesMachine.restored(program, (), standing)
+            while plain.outcome is None:
+                self.assertEqual(other.standing(), plain.standing())
+                plain.advance()
+                other.advance()
+            self.assertEqual((other.outcome, other.shown, other.calls), (plain.outcome, plain.shown, plain.calls))
 
 
 if __name__ == "__main__":

@@ -13,6 +13,7 @@ from goonagain.pilemachine import PileMachine
 from goonagain.plain import PlainMachine
 from goonagain.program import Program
 from goonagain.rows import Code
+from goonagain.standing import Standing, reached
 
 END = ("end",)
 
@@ -377,6 +378,23 @@ class Made(Pile):
         while machine.outcome is None:
             self.assertEqual(machine.standing(), machine.standing())
             machine.advance()
+
+    def test_a_standing_that_no_run_of_the_program_comes_to(self):
+        # The births mean other things than in the program's own run up to its first call.
+        things = (
+            (2, ("fun", 1, ())), (3, ("wait", 0, ())), (4, ("wind", ("fun", 2), ("fun", 2))), (5, ("mark",)),
+            (6, ("way", ("to", (3, 4), 1), ("give", 7))), (8, ("keep", (3, 4, 5))), (9, ("piece", (4,))),
+            (11, ("way", ("on", (4,)), ("call", ("rest", 9), (("rest", 8),)))), (12, ("wait", 0, ())))
+        program = Program("(show (wind (fn () (show 1)) (keep k (k k)) (fn () (show 2))))")
+        for frames, callee in (((3, 4, 5, 6, 12), ("rest", 8)), ((3, 5, 11), ("fun", 2)), ((3, 4, 5, 11, 5, 6), ("rest", 9))):
+            reach = reached(callee, (), frames, dict(things + ((13, ("pair", ("rest", 8), ("rest", 9))),)))
+            standing = Standing(callee, (5,) if callee[0] == "rest" else (), frames, reach, 13, 0, 0, 0)
+            plain, other = PlainMachine.restored(program, (), standing), PileMachine.restored(program, (), standing)
+            while plain.outcome is None:
+                self.assertEqual(other.standing(), plain.standing())
+                plain.advance()
+                other.advance()
+            self.assertEqual((other.outcome, other.shown, other.calls), (plain.outcome, plain.shown, plain.calls))
 
 
 if __name__ == "__main__":

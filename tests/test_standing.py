@@ -79,8 +79,8 @@ class Reached(unittest.TestCase):
         things = {1: ("pair", 0, 0), 2: ("fun", 1, ()), 3: ("pair", 0, 0), 4: ("mark",),
                   5: ("way", ("on", (4,)), ("call", ("fun", 2), (("pair", 1), 7, ("pair", 3)))),
                   6: ("way", ("to", (4,), 0), ("give", ("pair", 3))), 7: ("way", ("off",), ("call", ("fun", 2), (("pair", 3),))),
-                  8: ("way", ("out",), ("give", ("fun", 2)))}
-        for birth, births in ((5, [1, 2, 3, 4, 5]), (6, [3, 4, 6]), (7, [2, 3, 7]), (8, [2, 8])):
+                  8: ("way", ("out",), ("give", ("fun", 2))), 9: ("way", ("off",), ("call", 0, (("pair", 1), ("pair", 3))))}
+        for birth, births in ((9, [1, 3, 9]), (5, [1, 2, 3, 4, 5]), (6, [3, 4, 6]), (7, [2, 3, 7]), (8, [2, 8])):
             self.assertEqual([found for found, _ in reached(1, (), (birth,), things)], births)
 
     def test_rings(self):

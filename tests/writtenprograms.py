@@ -7,6 +7,7 @@ TEXTS = (
     "(show (mark (+ 10 (take k (+ (k 1) (k 2))))))",
     "(show (mark (+ 10 (take k (+ (k 1) (mark (+ 5 (take j (k (j 3))))))))))",
     "(mark (wind (fn () (show 1)) (wind (fn () (show 2)) (take k (do (show 9) (k 0) (k (k 1)))) (fn () (show 3))) (fn () (show 4))))",
+    "(wind (fn () (show 1)) (mark (show (wind (fn () (show 2)) (take k (k (k 5))) (fn () (show 3))))) (fn () (show 4)))",
     "(wind (fn () (show 1)) (show (keep k (wind (fn () (show 2)) (k 5) (fn () (show 3))))) (fn () (show 4)))",
     """(let ((r none) (n 0))
       (wind (fn () (show 1)) (wind (fn () (show 2)) (keep k (set r k)) (fn () (show 3))) (fn () (show 4)))
