@@ -1,14 +1,15 @@
 """How many frames rests hold, by the rows of a standing and by what a pieces machine tells."""
 
+from goonagain.standing import row_of
+
 
 def reached_rows(standing):
     """The rows of frames of a standing: the present one, then those of its rests and roads by their births."""
     rows = [tuple(standing.frames)]
     for _, thing in standing.things:
-        if thing[0] in ("keep", "once", "piece"):
-            rows.append(tuple(thing[1]))
-        elif thing[0] == "way" and thing[1][0] in ("to", "on"):
-            rows.append(tuple(thing[1][1]))
+        row = row_of(thing)
+        if row is not None:
+            rows.append(tuple(row))
     return tuple(rows)
 
 

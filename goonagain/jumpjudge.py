@@ -210,7 +210,7 @@ class JumpWalk:
         if word == "save":
             return list(range(self.widths[row[1]]))
         if word == "call":
-            return row[1:2] + row[2]
+            return row[1:2] + tuple(row[2])
         if word == "unless":
             return row[1:2]
         return row[1:] if word in ("back", "take", "wind") else ()

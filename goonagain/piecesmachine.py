@@ -3,7 +3,7 @@
 from goonagain.roadmachine import RoadMachine
 from goonagain.rowmachine import RowMachine
 from goonagain.segments import Holding, cut_blocks
-from goonagain.standing import births_in, births_of
+from goonagain.standing import births_in, births_of, row_of, with_row
 
 REST_WORDS = ("keep", "once", "piece")
 HOLDING_ROADS = ("to", "on")
@@ -32,6 +32,11 @@ class PiecesMachine(RowMachine, RoadMachine):
         self._blocks_made = 0
         # By the number of a block, the births of the rests and way frames that were made with it.
         self._holders = {}
+        # The unlike beginnings of their rows of blocks: of each the one a block shorter, and the frames of that block;
+        # 0 is the one without blocks. Then the numbers of beginnings by these two, and those of whole rows by births.
+        self._beginnings = [(0, ())]
+        self._numbers = {}
+        self._row_numbers = {}
         self._run(program.bodies[0][2], ())
         self._gather_shown()
 
@@ -71,23 +76,13 @@ class PiecesMachine(RowMachine, RoadMachine):
 
     def _blocks_held(self, birth):
         """The blocks of a rest or of the road of a way frame; None for another thing or road."""
-        thing = self._things[birth]
-        if thing[0] in REST_WORDS:
-            return thing[1]
-        if thing[0] == "way" and thing[1][0] in HOLDING_ROADS:
-            return thing[1][1]
-        return None
+        return row_of(self._things[birth])
 
     def _told_thing(self, birth):
         """The thing of a birth as a standing tells it."""
         thing = self._things[birth]
         blocks = self._blocks_held(birth)
-        if blocks is None:
-            return thing
-        if thing[0] == "way":
-            road = thing[1]
-            return ("way", (road[0], _frames_in(blocks)) + road[2:], thing[2])
-        return (thing[0], _frames_in(blocks)) + thing[2:]
+        return thing if blocks is None else with_row(thing, _frames_in(blocks))
 
     def _put_into_blocks(self, frames):
         """Cuts the frames of a standing, and those of its rests and roads, into blocks."""
@@ -96,18 +91,15 @@ class PiecesMachine(RowMachine, RoadMachine):
         known = {}
         self._open_row = []
         self._holders = {}
+        self._row_numbers = {}
         for birth, thing in told.items():
-            if thing[0] in REST_WORDS:
-                blocks = self._known_blocks(thing[1], told, known)
-                made[birth] = (thing[0], blocks) + thing[2:]
-                self._hold(birth, blocks)
-            elif thing[0] == "way" and thing[1][0] in HOLDING_ROADS:
-                road = thing[1]
-                blocks = self._known_blocks(road[1], told, known)
-                made[birth] = ("way", (road[0], blocks) + road[2:], thing[2])
-                self._hold(birth, blocks)
-            else:
+            row = row_of(thing)
+            if row is None:
                 made[birth] = thing
+            else:
+                blocks = self._known_blocks(row, told, known)
+                made[birth] = with_row(thing, blocks)
+                self._hold(birth, blocks)
         self._present = list(self._known_blocks(frames, told, known))
         self._things = made
 
@@ -126,8 +118,15 @@ class PiecesMachine(RowMachine, RoadMachine):
 
     def _hold(self, birth, blocks):
         """Notes that a rest or way frame was made with these blocks."""
+        number = 0
         for block in blocks:
             self._holders.setdefault(block.number, []).append(birth)
+            key = (number, block.number)
+            if key not in self._numbers:
+                self._numbers[key] = len(self._beginnings)
+                self._beginnings.append((number, block.frames))
+            number = self._numbers[key]
+        self._row_numbers[birth] = number
 
     def _close(self):
         """Cuts the open row into blocks of the present frames."""
@@ -270,17 +269,18 @@ class PiecesMachine(RowMachine, RoadMachine):
         return found
 
     def _births_named(self, birth, passed):
-        """The births that a thing names, but for the frames of blocks that were passed before."""
+        """The births that a thing names, but for the frames of beginnings that were passed before."""
         thing = self._things[birth]
         blocks = self._blocks_held(birth)
         if blocks is None:
             return births_of(thing)
         # Besides its frames a way names what happens at its end.
         births = [] if thing[0] in REST_WORDS else births_of(("way", ("out",), thing[2]))
-        for block in blocks:
-            if block.number not in passed:
-                passed[block.number] = True
-                births.extend(block.frames)
+        number = self._row_numbers[birth] if blocks else 0
+        while number > 0 and number not in passed:
+            passed[number] = True
+            number, frames = self._beginnings[number]
+            births.extend(frames)
         return births
 
     def _still_holds(self, birth):

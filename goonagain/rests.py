@@ -41,10 +41,15 @@ def deep_of(link):
 
 def chain_frames(chain):
     """The frames of a chain as a tuple of (birth, thing), bottom first."""
-    return tuple([(link.birth, _thing_of(link)) for link in _links_of(chain)])
+    return tuple([(link.birth, thing_of_link(link)) for link in links_of(chain)])
 
 
-def _links_of(chain):
+def births_of_chain(chain):
+    """The births of the frames of a chain, bottom first."""
+    return tuple([link.birth for link in links_of(chain)])
+
+
+def links_of(chain):
     """The records and mark records of a chain, bottom first."""
     links = []
     top, marked = chain.top, chain.marked
@@ -58,7 +63,7 @@ def _links_of(chain):
     return links[::-1]
 
 
-def _thing_of(link):
+def thing_of_link(link):
     """The thing of the frame that a record or mark record is."""
     if isinstance(link, MarkRecord):
         return ("mark",)
@@ -66,7 +71,7 @@ def _thing_of(link):
         return (link.word,) + link.detail
     road, then = link.detail
     if road[0] == "to":
-        road = ("to", tuple([goal.birth for goal in _links_of(road[1])]), road[2])
+        road = ("to", births_of_chain(road[1]), road[2])
     elif road[0] == "on":
         road = ("on", _births_from_wind(road[1], road[2]))
     return ("way", road, then)
@@ -83,71 +88,100 @@ def _births_from_wind(top, number):
 
 def chain_of(frames, things):
     """The chain of a row of frames: the opposite of chain_frames."""
-    chains = {}
+    return chains_of((frames,), things)[0]
+
+
+def chains_of(rows, things):
+    """The chains of rows of frames; rows that begin alike share their records."""
+    linking = Linking(things)
     # The frames of a road are elder than its way frame, so that the goals of those among them are there before.
-    for birth in _ways_to(frames, things):
-        chains[birth] = _linked(things[birth][1][1], things, chains)
-    return _linked(frames, things, chains)
+    for birth in _ways_to(rows, things):
+        linking.link_goal(birth)
+    return tuple([linking.linked(frames) for frames in rows])
 
 
-def _ways_to(frames, things):
-    """The ascending births of the way frames with a road "to" among frames, the frames of their roads, and so on."""
+def _ways_to(rows, things):
+    """The ascending births of the way frames with a road "to" in rows of frames, in rows of their roads, and so on."""
     found = {}
-    rows = [frames]
-    while rows:
-        row = rows.pop()
-        for birth in row:
+    waiting = list(rows)
+    while waiting:
+        for birth in waiting.pop():
             thing = things[birth]
             if thing[0] == "way" and birth not in found:
                 found[birth] = thing[1][0] == "to"
                 if thing[1][0] in ("to", "on"):
-                    rows.append(thing[1][1])
+                    waiting.append(thing[1][1])
     return [birth for birth in sorted(found) if found[birth]]
 
 
-def _linked(frames, things, chains):
-    """The chain of frames, where chains has the goals of roads "to" by the births of their way frames."""
-    marked = None
-    above = []
-    for birth in frames:
-        if things[birth][0] == "mark":
-            marked = MarkRecord(birth, _put_on(None, above, things, chains), marked)
-            above = []
-        else:
-            above.append(birth)
-    return Chain(_put_on(None, above, things, chains), marked)
+class Linking:
+    """Links frames by their things; a frame that lies on the same record twice is one record."""
 
+    def __init__(self, things):
+        self._things = things
+        # The chains to which roads "to" lead, by the births of their way frames.
+        self._goals = {}
+        # The records by their birth and what lies beneath them.
+        self._known = {}
 
-def _put_on(below, frames, things, chains):
-    """The topmost record when frames without marks lie on a record."""
-    # The rows that are being put on, each with its topmost frame first, and the record that each has come to.
-    # A row above another one is that of the road "on" of the other's next frame: it goes on from the same record.
-    rows = [list(frames)[::-1]]
-    tops = [below]
-    while True:
-        if rows[-1]:
-            birth = rows[-1][-1]
-            thing = things[birth]
-            if thing[0] == "way" and thing[1][0] == "on":
-                rows.append(list(thing[1][1])[::-1])
-                tops.append(tops[-1])
+    def link_goal(self, birth):
+        """Links the goal of the road "to" of a way frame."""
+        self._goals[birth] = self.linked(self._things[birth][1][1])
+
+    def linked(self, frames):
+        """The chain of frames; the goals of the ways among them are linked before."""
+        marked = None
+        above = []
+        for birth in frames:
+            if self._things[birth][0] == "mark":
+                marked = self._mark_on(birth, self._put_on(None, above), marked)
+                above = []
             else:
-                rows[-1].pop()
-                tops[-1] = Record(birth, thing[0], _detail_of(birth, thing, chains), tops[-1])
-        else:
-            rows.pop()
-            top = tops.pop()
-            if not rows:
-                return top
-            birth = rows[-1].pop()
-            road = ("on", top, deep_of(tops[-1]) + 1)
-            tops[-1] = Record(birth, "way", (road, things[birth][2]), tops[-1])
+                above.append(birth)
+        return Chain(self._put_on(None, above), marked)
 
+    def _mark_on(self, birth, top, outer):
+        key = (birth, top, outer)
+        if key not in self._known:
+            self._known[key] = MarkRecord(birth, top, outer)
+        return self._known[key]
 
-def _detail_of(birth, thing, chains):
-    if thing[0] == "way" and thing[1][0] == "to":
-        return (("to", chains[birth], thing[1][2]), thing[2])
-    return thing[1:]
+    def _one_on(self, birth, detail, below):
+        """The record of a frame on another record, or at the bottom."""
+        key = (birth, below)
+        if key not in self._known:
+            self._known[key] = Record(birth, self._things[birth][0], detail, below)
+        return self._known[key]
+
+    def _put_on(self, below, frames):
+        """The topmost record when frames without marks lie on a record."""
+        # The rows that are being put on, each with its topmost frame first, and the record that each has come to.
+        # A row above another one is that of the road "on" of the other's next frame: it goes on from the same record.
+        rows = [list(frames)[::-1]]
+        tops = [below]
+        while True:
+            if rows[-1]:
+                birth = rows[-1][-1]
+                thing = self._things[birth]
+                if thing[0] == "way" and thing[1][0] == "on":
+                    rows.append(list(thing[1][1])[::-1])
+                    tops.append(tops[-1])
+                else:
+                    rows[-1].pop()
+                    tops[-1] = self._one_on(birth, self._detail_of(birth, thing), tops[-1])
+            else:
+                rows.pop()
+                top = tops.pop()
+                if not rows:
+                    return top
+                birth = rows[-1].pop()
+                road = ("on", top, deep_of(tops[-1]) + 1)
+                tops[-1] = self._one_on(birth, (road, self._things[birth][2]), tops[-1])
+
+    def _detail_of(self, birth, thing):
+        if thing[0] == "way" and thing[1][0] == "to":
+            return (("to", self._goals[birth], thing[1][2]), thing[2])
+        return thing[1:]
 
 
 def common_winds(first, second):

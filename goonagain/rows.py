@@ -141,4 +141,9 @@ def _simple_instructions(simple, layout):
 
 def is_address(address, many):
     """Whether any object is the address of one of so many instructions."""
-    return isinstance(address, int) and not isinstance(address, bool) and 0 <= address < many
+    return is_whole(address) and 0 <= address < many
+
+
+def is_whole(thing):
+    """Whether any object is a whole number: True and False are none."""
+    return isinstance(thing, int) and not isinstance(thing, bool)

@@ -40,6 +40,36 @@ def reached_by(callee, handed, frames, thing_of):
     return tuple([(birth, found[birth]) for birth in sorted(found)])
 
 
+def row_of(thing):
+    """The row of frames of a rest or of a way's road, or None for another thing or road."""
+    if thing[0] in ("keep", "once", "piece"):
+        return thing[1]
+    if thing[0] == "way" and thing[1][0] in ("to", "on"):
+        return thing[1][1]
+    return None
+
+
+def with_row(thing, row):
+    """A rest, or a way whose road has frames, with another row in the place of its frames."""
+    if thing[0] == "way":
+        road = thing[1]
+        return ("way", (road[0], row) + road[2:], thing[2])
+    return (thing[0], row) + thing[2:]
+
+
+def worths_of(thing):
+    """The values that a thing names."""
+    word = thing[0]
+    if word in ("fun", "wait"):
+        return thing[2]
+    if word in ("pair", "wind"):
+        return thing[1:]
+    if word != "way":
+        return ()
+    then = thing[2]
+    return then[1:] if then[0] == "give" else then[1:2] + then[2]
+
+
 def births_in(worths):
     """The births that values name."""
     return [worth[1] for worth in worths if isinstance(worth, tuple) and len(worth) == 2]
@@ -47,22 +77,6 @@ def births_in(worths):
 
 def births_of(thing):
     """The births that a thing names."""
-    word = thing[0]
-    if word in ("pair", "wind"):
-        return births_in(thing[1:])
-    if word in ("fun", "wait"):
-        return births_in(thing[2])
-    if word in ("keep", "once", "piece"):
-        return list(thing[1])
-    if word == "pass":
+    if thing[0] == "pass":
         return [thing[1]]
-    if word == "way":
-        return _births_of_way(thing[1], thing[2])
-    return []
-
-
-def _births_of_way(road, then):
-    frames = list(road[1]) if road[0] in ("to", "on") else []
-    if then[0] == "give":
-        return frames + births_in(then[1:])
-    return frames + births_in(then[1:2]) + births_in(then[2])
+    return list(row_of(thing) or ()) + births_in(worths_of(thing))

@@ -3,6 +3,7 @@
 import random
 import unittest
 
+from makecodes import with_dead_cells, with_gaps, with_parts_mixed
 from makeprograms import good_tree
 from writtenprograms import TEXTS
 
@@ -295,6 +296,9 @@ class OtherCodes(Judged):
     def test_lists_are_as_good(self):
         code = compiled_jumps(KEEP)
         self.assertIsNone(jump_fault(KEEP, JumpCode(list(code.rows), list(code.starts), list(code.returns))))
+        rows = [tuple(list(item) if isinstance(item, tuple) and row[0] != "value" else item for item in row) for row in code.rows]
+        self.assertIn(("call", 1, [2]), rows)
+        self.assertIsNone(jump_fault(KEEP, JumpCode(rows, code.starts, code.returns)))
 
     def test_code_of_another_program(self):
         self.assertEqual(jump_fault(Program("(+ 1 (keep k (k 6)))"), compiled_jumps(KEEP)), ("step", 4))
@@ -312,40 +316,7 @@ class OtherCodes(Judged):
             for _ in range(3):
                 self.assertIsNone(jump_fault(program, with_gaps(code, chance)))
                 self.assertIsNone(jump_fault(program, with_parts_mixed(code, chance)))
-
-
-def moved(row, place):
-    if row[0] in ("jump", "unless"):
-        return row[:-1] + (place[row[-1]],)
-    return row
-
-
-def with_gaps(code, chance):
-    """The code with jumps over junk in front of some instructions."""
-    rows, place = [], {}
-    for address, row in enumerate(code.rows):
-        place[address] = len(rows)
-        if chance.random() < 0.3:
-            junk = chance.choice(((), (("back", 9),), (("jump", 0), ("value", -1, 2))))
-            rows.append(("over", len(rows) + len(junk) + 1))
-            rows.extend(("junk", one) for one in junk)
-        rows.append(row)
-    done = [("jump", row[1]) if row[0] == "over" else row[1] if row[0] == "junk" else moved(row, place) for row in rows]
-    return JumpCode(tuple(done), tuple(place[at] for at in code.starts), tuple(place[at] for at in code.returns))
-
-
-def with_parts_mixed(code, chance):
-    """The code with the parts of its bodies and places in another order."""
-    begins = sorted(code.starts + code.returns) + [len(code.rows)]
-    parts = list(zip(begins, begins[1:]))
-    chance.shuffle(parts)
-    rows, place = [], {}
-    for begin, end in parts:
-        for address in range(begin, end):
-            place[address] = len(rows)
-            rows.append(code.rows[address])
-    return JumpCode(tuple(moved(row, place) for row in rows), tuple(place[at] for at in code.starts),
-                    tuple(place[at] for at in code.returns))
+                self.assertIsNone(jump_fault(program, with_dead_cells(program, chance)))
 
 
 if __name__ == "__main__":

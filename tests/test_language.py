@@ -21,6 +21,11 @@ NEEDS = {
     "piecesmachine": ("segments", "standing", "machine", "rowmachine", "roadmachine"), "heldframes": ("segments", "standing"),
     "counts": ("heldframes", "piecesmachine"), "onceforkeep": ("trees", "errors"), "jumpcode": ("program",),
     "jumpjudge": ("jumpcode", "program"), "jumptext": ("errors", "jumpcode", "reader"), "rests": ("standing",),
+    "jumpmachine": ("errors", "jumpcode", "jumpjudge", "rests", "machine"), "standfault": ("rows", "standing"), "alike": ("standing",),
+    "meaning": ("errors", "standfault", "plain", "pilemachine", "piecesmachine", "jumpmachine"), "writestand": ("standing",),
+    "readstand": ("errors", "standing", "writestand"), "handovers": ("errors", "meaning", "writestand", "readstand"),
+    "recipes": ("errors",), "choices": ("recipes",), "makers": ("errors", "recipes"), "catching": ("recipes", "makers"), "hands": ("recipes",),
+    "runs": ("errors", "meaning", "writestand", "readstand"), "cuts": ("errors", "runs"), "bench": ("errors", "meaning", "runs", "cuts"),
 }
 # What each file defines: functions with their parameters, classes with their methods.
 FUNCTIONS = {
@@ -44,6 +49,14 @@ FUNCTIONS = {
     "jumptext": {"jump_text": "code", "read_jumps": "text"},
     "rests": {"chain_frames": "chain", "chain_of": "frames things", "common_winds": "first second", "cut_under": "chain number",
               "cut_with": "chain number"},
+    "standfault": {"standing_fault": "program asks standing"}, "alike": {"closed_standing": "standing", "renaming_between": "one other"},
+    "meaning": {"made_machine": "kind program asks fuel", "restored_machine": "kind program asks standing fuel",
+                "stepped": "kind program asks standing fuel"},
+    "writestand": {"standing_text": "standing"}, "readstand": {"read_standing": "text"}, "handovers": {"handed_over": "machine kind"},
+    "recipes": {"check_plan": "plan recipe"}, "choices": {"choices_text": "plan whole", "choices_shown": "plan"},
+    "makers": {"makers_text": "plan most", "makers_shown": "plan most"}, "catching": {"catching_text": "plan", "catching_shown": "plan"},
+    "hands": {"hands_text": "plan", "hands_shown": "plan"}, "runs": {"run_course": "program asks handovers start fuel"},
+    "cuts": {"kept_standing": "run"}, "bench": {"check_deeds": "deeds", "conduct": "program asks deeds kind fuel"},
 }
 CLASSES = {
     "program": {"Program": {"__init__": "self text", "of_tree": "tree"}},
@@ -65,13 +78,26 @@ CLASSES = {
     "jumpcode": {"JumpCode": {"__init__": "self rows starts returns", "__eq__": "self other"}},
     "rests": {"Record": {"__init__": "self birth word detail below"}, "MarkRecord": {"__init__": "self birth top outer"},
               "Chain": {"__init__": "self top marked"}},
+    "jumpmachine": {"JumpMachine": {"__init__": "self program asks fuel code", "standing": "self", "restored": "program asks standing fuel code"}},
+    "meaning": {"Stepped": {"__init__": "self standing outcome shown"}},
+    "runs": {"Leg": {"__init__": "self kind first last", "__eq__": "self other"}, "Course": {"__init__": "self shows end calls legs_done texts"},
+             "Run": {"__init__": "self program asks kind fuel", "seen": "self", "legs": "self", "performed": "self", "go": "self many",
+                     "finish": "self", "written": "self", "hand": "self kind", "settle": "self text kind"}},
+    "cuts": {"Kept": {"__init__": "self calls told text", "__eq__": "self other"},
+             "Shelf": {"__init__": "self first", "put": "self kept", "lose": "self many", "latest": "self", "all_kept": "self", "__iter__": "self"}},
+    "bench": {"Trial": {"__init__": "self news end calls done"}, "Account": {"__init__": "self shows end calls work legs_done done"},
+              "Bench": {"__init__": "self program asks kind fuel", "seen": "self", "legs": "self", "performed": "self", "stands_at": "self",
+                        "carried_by": "self", "ended": "self", "go": "self many", "finish": "self", "hand": "self kind", "keep": "self",
+                        "cut": "self lost kind", "take_back": "self", "perform": "self", "trial": "self deeds"}},
 }
+# The properties of each class, which are defined in it and read alone.
+PROPERTIES = {"Run": ("seen", "legs", "performed"), "Bench": ("seen", "legs", "performed", "stands_at", "carried_by", "ended")}
 BUILTINS = """len range enumerate zip min max sum abs sorted reversed int str bool list tuple dict set isinstance ord repr any all
     divmod getattr hasattr setattr iter next map super staticmethod property ValueError TypeError KeyError IndexError LookupError
     NotImplementedError RuntimeError""".split()
 METHODS = """append clear copy count endswith extend find get index insert isalnum isalpha isdigit islower isspace isupper items join
     keys ljust lower lstrip partition pop remove replace reverse rfind rjust rpartition rsplit rstrip setdefault split splitlines
-    startswith strip update upper values zfill bit_length add discard""".split()
+    startswith strip update upper values zfill bit_length add discard isascii""".split()
 BARRED = """type typing typing_extensions enum Enum IntEnum StrEnum Flag IntFlag Generic Protocol ABC ABCMeta namedtuple NamedTuple
     TypedDict TYPE_CHECKING abstractmethod register mro elements open input law version_info with_traceback add_note attrgetter
     breakpoint compile delattr dir eval exec exit gc globals help id importlib license locals methodcaller os quit vars sys
@@ -159,7 +185,7 @@ class Words(unittest.TestCase):
                     self.check(not isinstance(node.value, (float, complex, bytes)), name, node, "a constant")
                 if isinstance(node, (ast.FunctionDef, ast.ClassDef)):
                     for decorator in node.decorator_list:
-                        self.check(isinstance(node, ast.FunctionDef) and decorator.id == "staticmethod", name, node, "a decorator")
+                        self.check(isinstance(node, ast.FunctionDef) and decorator.id in ("staticmethod", "property"), name, node, "a decorator")
                 if isinstance(node, ast.Compare):
                     for sign, right in zip(node.ops, node.comparators):
                         if isinstance(sign, (ast.Is, ast.IsNot)):
@@ -167,7 +193,8 @@ class Words(unittest.TestCase):
                 if isinstance(node, ast.Raise):
                     self.check(isinstance(node.exc, ast.Call), name, node, "raise")
                 if isinstance(node, ast.FunctionDef):
-                    self.check(not node.args.vararg and not node.args.kwarg and not node.returns, name, node, "parameters")
+                    self.check(not node.args.kwarg and not node.returns, name, node, "parameters")
+                    self.check(not node.args.vararg or node.name == "perform", name, node, "parameters")
 
     def test_attributes_are_assigned_through_a_local_name(self):
         for name, text in package():
@@ -205,7 +232,7 @@ class Words(unittest.TestCase):
                     word = getattr(node, field, None)
                     if isinstance(word, str):
                         self.check(word not in BARRED, name, node, word)
-                        self.check(not word.startswith("__") or word in ("__init__", "__eq__"), name, node, word)
+                        self.check(not word.startswith("__") or word in ("__init__", "__eq__", "__iter__"), name, node, word)
                 if isinstance(node, ast.Constant) and isinstance(node.value, str):
                     self.check("%" not in node.value, name, node, "%")
                     if id(node) not in docs:
@@ -231,7 +258,31 @@ class Words(unittest.TestCase):
                     methods |= {one.name for one in node.body if isinstance(one, ast.FunctionDef)}
                 if isinstance(node, ast.Attribute) and isinstance(node.ctx, ast.Store):
                     attributes.add(node.attr)
-        self.assertEqual(methods & attributes, set())
+        # The interface names both: the method of the machines, and the attribute of Stepped.
+        self.assertEqual(methods & attributes, {"standing"})
+
+    def test_properties(self):
+        for name, text in package():
+            for node in ast.walk(ast.parse(text)):
+                if isinstance(node, ast.ClassDef):
+                    found = [one.name for one in node.body if isinstance(one, ast.FunctionDef)
+                             and [decorator.id for decorator in one.decorator_list] == ["property"]]
+                    self.assertEqual(tuple(found), PROPERTIES.get(node.name, ()), (name, node.name))
+                    for one in node.body:
+                        # A property is a docstring and one return, which calls nothing but a class of the file.
+                        if isinstance(one, ast.FunctionDef) and one.name in found:
+                            self.check(len(one.body) == 2 and isinstance(one.body[1], ast.Return), name, one, one.name)
+                            calls = [call.func for call in ast.walk(one) if isinstance(call, ast.Call)]
+                            self.check(all(isinstance(func, ast.Name) and func.id == "Leg" for func in calls), name, one, one.name)
+
+    def test_what_is_iterated_over_is_its_one_statement(self):
+        found = []
+        for name, text in package():
+            for node in ast.walk(ast.parse(text)):
+                if isinstance(node, ast.FunctionDef) and node.name == "__iter__":
+                    found.append(ast.unparse(node.body[0]))
+                    self.check(len(node.body) == 1, name, node, node.name)
+        self.assertEqual(found, ["return iter(self._row)"])
 
     def test_what_is_iterated_on_the_spot_is_not_returned_or_kept(self):
         for name, text in package():
@@ -277,13 +328,34 @@ class Interface(unittest.TestCase):
         self.assertEqual(list(defaults("pilemachine", "restored")), [["2000"]])
         self.assertEqual(list(defaults("piecesmachine", "__init__")), [["()", "2000"]])
         self.assertEqual(list(defaults("piecesmachine", "restored")), [["2000"]])
+        self.assertEqual(list(defaults("jumpmachine", "__init__")), [["()", "2000"]])
+        self.assertEqual(list(defaults("jumpmachine", "restored")), [["2000"]])
+        self.assertEqual(list(defaults("meaning", "made_machine")), [["()", "2000"]])
+        self.assertEqual(list(defaults("meaning", "restored_machine")), [["2000"]])
+        self.assertEqual(list(defaults("meaning", "stepped")), [["2000"]])
+        self.assertEqual(list(defaults("makers", "makers_text")), [["MOST_ITEMS"]])
+        self.assertEqual(list(defaults("makers", "makers_shown")), [["MOST_ITEMS"]])
+        self.assertEqual(list(defaults("runs", "__init__")), [["()"]])
+        self.assertEqual(list(defaults("runs", "go")), [["1"]])
+        self.assertEqual(list(defaults("runs", "run_course")), [["()", "()"]])
+        self.assertEqual(list(defaults("bench", "__init__")), [["()"]])
+        self.assertEqual(list(defaults("bench", "go")), [["1"]])
+        self.assertEqual(list(defaults("bench", "cut")), [["0", "'plain'"]])
 
-    def test_code_is_passed_by_keyword_alone(self):
+    def test_what_is_passed_by_keyword_alone(self):
         trees = {name[:-3]: ast.parse(text) for name, text in package()}
-        for module in ("pilemachine",):
-            found = [node.args for node in ast.walk(trees[module]) if isinstance(node, ast.FunctionDef) and node.args.kwonlyargs]
-            self.assertEqual([[one.arg for one in args.kwonlyargs] for args in found], [["code"], ["code"]])
-            self.assertEqual([[one.value for one in args.kw_defaults] for args in found], [[None], [None]])
+        found = {}
+        for module, tree in trees.items():
+            for node in ast.walk(tree):
+                if isinstance(node, ast.FunctionDef) and node.args.kwonlyargs:
+                    found.setdefault(module, []).append(
+                        (node.name, {one.arg: worth.value for one, worth in zip(node.args.kwonlyargs, node.args.kw_defaults)}))
+        self.assertEqual(found, {
+            "pilemachine": [("__init__", {"code": None}), ("restored", {"code": None})],
+            "jumpmachine": [("__init__", {"code": None}), ("restored", {"code": None})],
+            "choices": [("choices_text", {"whole": False})],
+            "runs": [("run_course", {"start": "plain", "fuel": 2000}), ("__init__", {"kind": "plain", "fuel": 2000})],
+            "bench": [("conduct", {"kind": "plain", "fuel": 2000}), ("__init__", {"kind": "plain", "fuel": 2000})]})
 
 
 if __name__ == "__main__":

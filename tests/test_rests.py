@@ -7,7 +7,7 @@ from writtenprograms import TEXTS
 
 from goonagain.plain import PlainMachine
 from goonagain.program import Program
-from goonagain.rests import Chain, MarkRecord, Record, chain_frames, chain_of, common_winds, cut_under, cut_with
+from goonagain.rests import Chain, MarkRecord, Record, chain_frames, chain_of, chains_of, common_winds, cut_under, cut_with
 from goonagain.ways import shared_winds, winds_of
 
 GIVE, CALL = ("give", 7), ("call", ("fun", 1), (2,))
@@ -91,6 +91,16 @@ class BackAndForth(unittest.TestCase):
         self.assertEqual((chain.marked.birth, chain.marked.top.birth, chain.marked.deep), (22, 30, 1))
         self.assertEqual((chain.marked.outer.birth, chain.marked.outer.top, chain.marked.outer.outer.birth), (21, None, 20))
         self.assertEqual((chain.top.deep, chain.top.wound.birth, chain.marked.top.wound), (1, 31, None))
+
+    def test_rows_that_begin_alike_share_their_records(self):
+        one, two, three = chains_of(((10, 20, 30, 11), [10, 20, 30], (20, 30, 11)), THINGS)
+        self.assertIs(one.marked, two.marked)
+        self.assertIs(one.top.below, two.top)
+        # Above another mark, the same frames directly on it are the same records; the mark itself lies on other frames.
+        self.assertIs(three.top, one.top)
+        self.assertIsNot(three.marked, one.marked)
+        self.assertEqual([births_in(chain) for chain in (one, two, three)], [(10, 20, 30, 11), (10, 20, 30), (20, 30, 11)])
+        self.assertEqual(chains_of((), THINGS), ())
 
     def test_the_same_piece_twice(self):
         self.both((20, 10, 30, 11, 21, 10, 30, 11, 12))

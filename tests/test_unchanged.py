@@ -3,15 +3,21 @@
 import copy
 import unittest
 
+from goonagain.alike import closed_standing, renaming_between
+from goonagain.bench import Bench, check_deeds, conduct
 from goonagain.codejudge import code_fault
 from goonagain.compiler import compiled_code, turned_code
 from goonagain.equals import TURN_NAMES, turn_here, uses_of
-from goonagain.errors import BadAsks, BadCode, BadListing, BadName, BadText, BadTurnName, NoKeep, NoTurn
+from goonagain.errors import BadAsks, BadCode, BadDeed, BadHandover, BadJumps, BadKind, BadListing, BadName, BadPlan, BadStanding
+from goonagain.errors import BadText, BadTurnName, NoCall, NoKeep, NoTurn
+from goonagain.handovers import handed_over
 from goonagain.heldframes import reached_rows
 from goonagain.jumpcode import JumpCode, compiled_jumps
 from goonagain.jumpjudge import jump_fault
+from goonagain.jumpmachine import JumpMachine
 from goonagain.jumptext import jump_text, read_jumps
 from goonagain.machine import run_seen
+from goonagain.meaning import KINDS, made_machine, restored_machine, stepped
 from goonagain.onceforkeep import keep_paths, with_once
 from goonagain.piecesmachine import PiecesMachine
 from goonagain.pile import frames_of, slots_of
@@ -20,14 +26,19 @@ from goonagain.plain import PlainMachine
 from goonagain.plainset import without_set
 from goonagain.program import Program
 from goonagain.reader import read_program
+from goonagain.readstand import read_standing
+from goonagain.recipes import check_plan
 from goonagain.rests import chain_frames, chain_of
 from goonagain.rows import Code, place_layouts
+from goonagain.runs import Run, run_course
 from goonagain.scopes import check_names, free_names, set_names
 from goonagain.segments import cut_blocks
-from goonagain.standing import reached
+from goonagain.standfault import standing_fault
+from goonagain.standing import Standing, reached
 from goonagain.trees import parts_of, tree_at, tree_paths, tree_with, with_parts
 from goonagain.turner import list_turns, turn_all, turned
 from goonagain.walker import walk_counted
+from goonagain.writestand import standing_text
 from goonagain.ways import deeds_of_way, lay_on, mark_cut, next_step, shared_winds, winds_of
 
 TEXT = """(let ((r none) (n 0)) (rec ((f (fn (a b) (set n (+ n a)))) (g (fn () (f 1 2)))) (g)
@@ -113,6 +124,45 @@ class Unchanged(unittest.TestCase):
             machine.advance()
             self.assertEqual((vars(standing), vars(holding), things), before)
 
+    def test_functions_over_standings_return_tuples(self):
+        program, asks = Program(TEXT), [1]
+        machine = made_machine("plain", program, asks)
+        while machine.outcome is None:
+            standing = machine.standing()
+            before = copy.deepcopy(vars(standing))
+            closed, read = closed_standing(standing), read_standing(standing_text(standing))
+            for told in (closed, read, stepped("jump", program, asks, standing).standing or closed):
+                all_tuples(self, (told.callee, told.handed, told.frames, told.things, told.born, told.calls, told.asked, told.shown))
+            all_tuples(self, renaming_between(standing, closed))
+            self.assertIsNone(standing_fault(program, asks, standing))
+            all_tuples(self, standing_fault(program, asks, Standing(standing.callee, standing.handed, standing.frames, standing.things, -1, 0, 0, 0)))
+            all_tuples(self, stepped("pile", program, asks, standing).shown)
+            for kind in KINDS:
+                run_seen(restored_machine(kind, program, asks, standing))
+                run_seen(handed_over(machine, kind))
+            self.assertEqual((vars(standing), asks), (before, [1]))
+            self.assertEqual(vars(machine.standing()), before)
+            machine.advance()
+
+    def test_lists_handed_to_runs(self):
+        program = Program(TEXT)
+        asks, handovers, deeds = [3], [(1, "pile"), (2, "jump")], [("go", 2), ("keep",), ("cut", 0, "pieces")]
+        course = run_course(program, asks, handovers)
+        account = conduct(program, asks, deeds)
+        bench = Bench(program, asks)
+        run = Run(program, asks)
+        trial = bench.trial(deeds)
+        check_deeds(deeds)
+        self.assertEqual((asks, handovers, deeds), ([3], [(1, "pile"), (2, "jump")], [("go", 2), ("keep",), ("cut", 0, "pieces")]))
+        asks[0] = 77
+        self.assertEqual((bench.finish(), run.finish()), (True, ("end",)))
+        for shows in (course.shows, account.shows, bench.seen):
+            self.assertEqual(shows, run.seen)
+        for thing in (course.shows, course.end, course.texts, account.shows, account.done, trial.news, trial.done, bench.perform(), run.seen):
+            all_tuples(self, thing)
+        for legs in (course.legs_done, account.legs_done, bench.legs, run.legs, bench.shelf.all_kept()):
+            self.assertIsInstance(legs, tuple)
+
     def test_lists_that_are_changed_later(self):
         parts = [("number", 1), ("number", 2)]
         tree = with_parts(("do", (("none",), ("none",))), parts)
@@ -129,7 +179,7 @@ class Unchanged(unittest.TestCase):
     def test_a_machine_changes_neither_its_program_nor_its_inputs(self):
         program, asks = Program(TEXT), [4, 5, 6]
         before = copy.deepcopy(vars(program))
-        for kind in (PlainMachine, PileMachine, PiecesMachine):
+        for kind in (PlainMachine, PileMachine, PiecesMachine, JumpMachine):
             machine = kind(program, asks)
             while machine.outcome is None:
                 standing = machine.standing()
@@ -160,7 +210,11 @@ class Unchanged(unittest.TestCase):
                             (lambda: turned(tree, [1], "fold"), NoTurn), (lambda: turn_all(tree, ["fold", 1]), BadTurnName),
                             (lambda: PileMachine(program, asks), BadAsks), (lambda: PiecesMachine(program, asks), BadAsks),
                             (lambda: with_once(tree, [[0]]), NoKeep), (lambda: read_jumps("starts"), BadListing),
-                            (lambda: PileMachine(program, code=Code((), (), (0,))), BadCode)):
+                            (lambda: PileMachine(program, code=Code((), (), (0,))), BadCode), (lambda: JumpMachine(program, asks), BadAsks),
+                            (lambda: JumpMachine(program, code=JumpCode((), (0,), ())), BadJumps), (lambda: made_machine("no", program), BadKind),
+                            (lambda: read_standing("standing"), BadStanding), (lambda: Run(program, asks), BadAsks), (lambda: check_deeds([asks]), BadDeed),
+                            (lambda: handed_over(PlainMachine(program), "no"), BadKind), (lambda: handed_over(PlainMachine(program), "jump"), NoCall),
+                            (lambda: check_plan(asks, "makers"), BadPlan), (lambda: run_course(program, (), [asks]), BadHandover)):
             for _ in range(2):
                 self.assertRaises(error, call)
         self.assertEqual((asks, things, tree), ([1, True, 3], THINGS, read_program("(+ x 1)")))
