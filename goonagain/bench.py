@@ -82,7 +82,8 @@ class Bench:
     @property
     def carried_by(self):
         """The kind of the present machine."""
-        return self._present_run.machine.KIND
+        machine = self._present_run.machine
+        return machine.KIND
 
     @property
     def ended(self):
@@ -138,8 +139,8 @@ class Bench:
         """Puts the bench back to where it was ahead of the last deed that was not taken back."""
         if not self._history:
             return False
-        spot, row = self._history.pop()
-        self._present_run.put_back(spot)
+        point, row = self._history.pop()
+        self._present_run.put_back(point)
         self.shelf = _shelf_of(row)
         return True
 
@@ -150,8 +151,9 @@ class Bench:
 
     def trial(self, deeds):
         """What deeds would do on a bench that stands alike and has an empty history."""
-        other = Bench(self._present_run.program, self._present_run.machine.asks, fuel=self._present_run.machine.fuel)
-        other._present_run = self._present_run.twin()
+        run = self._present_run
+        other = Bench(run.program, run.machine.asks, fuel=run.machine.fuel)
+        other._present_run = run.twin()
         if self.shelf is not None:
             other.shelf = _shelf_of(self.shelf.all_kept())
         done = other.perform(*deeds)
@@ -159,7 +161,7 @@ class Bench:
 
     def _note(self):
         """Notes where the bench stands, ahead of a deed."""
-        self._history.append((self._present_run.spot(), self.shelf.all_kept()))
+        self._history.append((self._present_run.standpoint(), self.shelf.all_kept()))
 
     def _done(self, deed):
         """Performs a deed that is told as data."""

@@ -32,7 +32,7 @@ class Course:
         self.texts = texts
 
 
-class Spot:
+class Standpoint:
     """Where a run stands: a kind and a standing, or at an outcome the machine itself, which changes no more."""
 
     def __init__(self, kind, standing, machine, told_before):
@@ -66,7 +66,8 @@ class Run:
     @property
     def legs(self):
         """The legs of all machines, the present one the last."""
-        return self._legs_before + (Leg(self.machine.KIND, self._calls_before + 1, self.machine.calls),)
+        machine = self.machine
+        return self._legs_before + (Leg(machine.KIND, self._calls_before + 1, machine.calls),)
 
     @property
     def performed(self):
@@ -115,25 +116,26 @@ class Run:
             raise Ahead(standing.shown)
         self._go_on_from(standing, kind)
 
-    def spot(self):
+    def standpoint(self):
         """Where the run stands."""
         machine = self.machine
         if machine.outcome is None:
-            return Spot(machine.KIND, machine.standing(), None, self._told_before)
-        return Spot(machine.KIND, None, machine, self._told_before)
+            return Standpoint(machine.KIND, machine.standing(), None, self._told_before)
+        return Standpoint(machine.KIND, None, machine, self._told_before)
 
-    def put_back(self, spot):
+    def put_back(self, point):
         """Lets the run go on from where it stood."""
-        if spot.machine is None:
-            self._go_on_from(spot.standing, spot.kind)
+        if point.machine is None:
+            self._go_on_from(point.standing, point.kind)
         else:
-            self._take_over(spot.machine, spot.told_before)
+            self._take_over(point.machine, point.told_before)
 
     def twin(self):
         """Another run that stands where this one stands and has seen the same."""
-        other = Run(self.program, self.machine.asks, kind=self.machine.KIND, fuel=self.machine.fuel)
+        machine = self.machine
+        other = Run(self.program, machine.asks, kind=machine.KIND, fuel=machine.fuel)
         other._seen = self._seen
-        other.put_back(self.spot())
+        other.put_back(self.standpoint())
         return other
 
     def _go_on_from(self, standing, kind):

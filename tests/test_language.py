@@ -269,9 +269,11 @@ class Words(unittest.TestCase):
                              and [decorator.id for decorator in one.decorator_list] == ["property"]]
                     self.assertEqual(tuple(found), PROPERTIES.get(node.name, ()), (name, node.name))
                     for one in node.body:
-                        # A property is a docstring and one return, which calls nothing but a class of the file.
+                        # A property assigns a local name at most, and calls nothing but a class of the file.
                         if isinstance(one, ast.FunctionDef) and one.name in found:
-                            self.check(len(one.body) == 2 and isinstance(one.body[1], ast.Return), name, one, one.name)
+                            self.check(isinstance(one.body[-1], ast.Return), name, one, one.name)
+                            for row in one.body[1:-1]:
+                                self.check(isinstance(row, ast.Assign) and isinstance(row.targets[0], ast.Name), name, one, one.name)
                             calls = [call.func for call in ast.walk(one) if isinstance(call, ast.Call)]
                             self.check(all(isinstance(func, ast.Name) and func.id == "Leg" for func in calls), name, one, one.name)
 
